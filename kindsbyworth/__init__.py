@@ -1,0 +1,1 @@
+"""Kindsbyworth: a small tongue where kinds hang on worths."""

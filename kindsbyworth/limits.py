@@ -1,0 +1,5 @@
+"""The bounds that reckonings and steps keep."""
+
+MOST = 2000
+GREATEST = 400
+DEEPEST = 40
