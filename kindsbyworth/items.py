@@ -1,13 +1,13 @@
 """Telescopes, families, patterns, definitions, lots: what they are by form."""
 
-from kindsbyworth.terms import hole_names, holes_in, is_count, is_mark, is_name, is_near_or_far, is_term
+from kindsbyworth.terms import is_count, is_mark, is_name, is_near_or_far, told_holes
 
 HIGHEST_FAMILY = 8
 
 
 def is_whole(thing):
     """Whether it is a term without holes."""
-    return is_term(thing) and not holes_in(thing)
+    return told_holes(thing) == []
 
 
 def is_telescope(thing):
@@ -69,24 +69,34 @@ def is_pattern(thing):
     return True
 
 
-def is_row(thing, many):
-    """Whether it is a row of so many patterns."""
+def row_holes(thing, many):
+    """The names of the holes of a row of so many patterns; None of what is none."""
     if not isinstance(thing, tuple) or len(thing) != 2 or not isinstance(thing[0], tuple):
-        return False
+        return None
     patterns, body = thing
-    return len(patterns) == many and all([is_pattern(pattern) for pattern in patterns]) and is_term(body)
+    if len(patterns) != many or not all([is_pattern(pattern) for pattern in patterns]):
+        return None
+    return told_holes(body)
 
 
-def is_definition(thing):
-    """Whether it is a definition; what its holes are called is its lot's to ask."""
+def definition_holes(thing):
+    """The names of the holes of a definition, as often as they stand; None of what is none."""
     if not isinstance(thing, tuple) or len(thing) != 5:
-        return False
+        return None
     name, telescope, result, less, rows = thing
     if not is_near_or_far(name) or not is_telescope(telescope) or not is_whole(result):
-        return False
+        return None
     if less is not None and not (is_count(less) and less < len(telescope)):
-        return False
-    return isinstance(rows, tuple) and all([is_row(row, len(telescope)) for row in rows])
+        return None
+    if not isinstance(rows, tuple):
+        return None
+    found = []
+    for row in rows:
+        holes = row_holes(row, len(telescope))
+        if holes is None:
+            return None
+        found.extend(holes)
+    return found
 
 
 def is_lot(thing):
@@ -96,13 +106,14 @@ def is_lot(thing):
     definitions = thing[1]
     if not isinstance(definitions, tuple) or not definitions:
         return False
-    if not all([is_definition(definition) for definition in definitions]):
-        return False
-    names = [definition[0] for definition in definitions]
-    holes = [
-        hole for definition in definitions for patterns, body in definition[4] for hole in hole_names(body)
-    ]
-    return are_unlike(names + holes)
+    names = []
+    for definition in definitions:
+        holes = definition_holes(definition)
+        if holes is None:
+            return False
+        names.append(definition[0])
+        names.extend(holes)
+    return are_unlike(names)
 
 
 def is_item(thing):
@@ -122,3 +133,12 @@ def names_of(item):
     if item[0] == "lot":
         return tuple([definition[0] for definition in item[1]])
     return (item[1],)
+
+
+def holes_of(item):
+    """The names of an item's holes, rising."""
+    if item[0] != "lot":
+        return ()
+    return tuple(sorted([
+        hole for definition in item[1] for patterns, body in definition[4] for hole in told_holes(body)
+    ]))

@@ -3,14 +3,17 @@
 
 def are_same(one, other):
     """Whether they are the same; Python's own comparing nests, and may so fail on deep ones."""
-    left = [(one, other)]
+    left = [((one,), (other,))]
     while left:
         first, second = left.pop()
-        if not isinstance(first, tuple) or not isinstance(second, tuple):
-            if first != second:
-                return False
-        elif len(first) != len(second):
+        if len(first) != len(second):
             return False
-        else:
-            left.extend(list(zip(first, second)))
+        for here, there in zip(first, second):
+            if not isinstance(here, tuple) or not isinstance(there, tuple):
+                if here != there:
+                    return False
+            elif here and there:
+                left.append((here, there))
+            elif here or there:
+                return False
     return True

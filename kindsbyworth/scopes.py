@@ -5,15 +5,9 @@ from kindsbyworth.items import is_item, is_open_item, names_of
 from kindsbyworth.sameness import are_same
 
 
-def homes_of(items):
-    """A dict from each name to its item; Taken of the first name that was there."""
-    homes = {}
-    for item in items:
-        for name in names_of(item):
-            if name in homes:
-                raise Taken(name)
-            homes[name] = item
-    return homes
+def is_of_scope(thing):
+    """Whether a Scope may have it, of anything."""
+    return is_item(thing) or is_open_item(thing)
 
 
 class Scope:
@@ -22,10 +16,25 @@ class Scope:
     def __init__(self, items=()):
         if not isinstance(items, tuple):
             raise NoItem("a tuple of items is wanted")
-        if not all([is_item(item) or is_open_item(item) for item in items]):
+        if not all([is_of_scope(item) for item in items]):
             raise NoItem("one of these is no item")
         self.all_items = items
-        self._homes = homes_of(items)
+        self.homes = {}
+        self.families = {}
+        self.definitions = {}
+        for item in items:
+            self._take_in(item)
+
+    def _take_in(self, item):
+        for name in names_of(item):
+            if name in self.homes:
+                raise Taken(name)
+            self.homes[name] = item
+        if item[0] == "family":
+            self.families[item[1]] = item
+        if item[0] == "lot":
+            for definition in item[1]:
+                self.definitions[definition[0]] = definition
 
     def __eq__(self, other):
         if not isinstance(other, Scope):
@@ -33,14 +42,22 @@ class Scope:
         return are_same(self.all_items, other.all_items)
 
     def __len__(self):
-        return len(self._homes)
+        return len(self.homes)
 
     def item_of(self, name):
         """The item that has this name; NoName of anything else."""
-        if not isinstance(name, str) or name not in self._homes:
+        if not isinstance(name, str) or name not in self.homes:
             raise NoName(name)
-        return self._homes[name]
+        return self.homes[name]
 
     def with_item(self, item):
-        """A Scope with one item more."""
-        return Scope(self.all_items + (item,))
+        """A Scope with one item more; those that are here were told to be items."""
+        if not is_of_scope(item):
+            raise NoItem("this is no item")
+        made = Scope()
+        made.all_items = self.all_items + (item,)
+        made.homes = dict(self.homes)
+        made.families = dict(self.families)
+        made.definitions = dict(self.definitions)
+        made._take_in(item)
+        return made

@@ -3,8 +3,8 @@
 from kindsbyworth.errors import NoSpot, TooGreat
 from kindsbyworth.limits import DEEPEST, GREATEST
 from kindsbyworth.lookups import definition_of, family_of, shape_of
-from kindsbyworth.putting import put_in
-from kindsbyworth.terms import measures, part_at, with_part
+from kindsbyworth.putting import put_in, put_measures
+from kindsbyworth.terms import chain_to, measures, size_of, with_child
 
 
 def shape_terms(scope, term):
@@ -26,7 +26,8 @@ def paired(patterns, terms):
 
 
 def met(scope, patterns, terms):
-    """How patterns meet terms: (word, taken), word `takes`, `passes` (to the next row) or `waits`."""
+    """How patterns meet terms: (word, told), word `takes` with what they take, `passes` (to the
+    next row), or `waits` with the term at which no shape stands."""
     taken = []
     left = paired(patterns, terms)
     while left:
@@ -37,67 +38,98 @@ def met(scope, patterns, terms):
             continue
         within = shape_terms(scope, term)
         if within is None:
-            return "waits", ()
+            return "waits", term
         if term[2] != pattern[1] or len(within) != len(pattern[2]):
-            return "passes", ()
+            return "passes", None
         left.extend(paired(pattern[2], within))
     return "takes", tuple(taken)
 
 
+def rows_met(scope, definition, terms):
+    """How a definition's rows meet terms: (word, row, told); `passes` where no row is left."""
+    for row, (patterns, body) in enumerate(definition[4]):
+        word, told = met(scope, patterns, terms)
+        if word != "passes":
+            return word, row, told
+    return "passes", None, None
+
+
 def called(scope, call):
-    """What comes for a call by the row that takes it, None where it waits."""
+    """How a call goes on, as rows_met tells; `passes` where no definition is meant, too."""
     definition = definition_of(scope, call[1])
     if definition is None or len(definition[1]) != len(call[2]):
-        return None
-    for patterns, body in definition[4]:
-        word, taken = met(scope, patterns, call[2])
-        if word == "waits":
-            return None
-        if word == "takes":
-            return put_in(body, taken)
-    return None
+        return "passes", None, None
+    return rows_met(scope, definition, call[2])
 
 
-def given(give):
-    """What comes for a give of a fun of its own mark, None where something else is given to."""
-    mark, function, argument = give[1:]
-    if function[0] != "fun" or function[1] != mark:
-        return None
-    return put_in(function[3], (argument,))
+def is_given(term):
+    """Whether it is a give to a fun of its own mark."""
+    return term[0] == "give" and term[2][0] == "fun" and term[2][1] == term[1]
 
 
-def stepped(scope, term):
-    """What comes for the term itself by a step at it, None where no step goes there."""
+def coming(scope, term):
+    """(body, terms) where by a step at the term itself the body comes, these put in; else None."""
     if term[0] == "give":
-        return given(term)
-    if term[0] == "call":
-        return called(scope, term)
-    return None
+        return (term[2][3], term[3:]) if is_given(term) else None
+    if term[0] != "call":
+        return None
+    word, row, told = called(scope, term)
+    if word != "takes":
+        return None
+    return definition_of(scope, term[1])[4][row][1], told
+
+
+class Whole:
+    """A whole term's size through steps within it, and whether it is known to be no deeper than bounds say."""
+
+    def __init__(self, term):
+        self.size, depth = measures(term)
+        self.is_deep = depth > DEEPEST
+
+    def made(self, chain, spot, comes):
+        """The new chain of terms down to the spot behind this step there; TooGreat."""
+        body, terms = comes
+        size, depth = put_measures(body, terms)
+        size = size + self.size - size_of(chain[-1])
+        if size > GREATEST or len(spot) + depth > DEEPEST:
+            raise TooGreat(size)
+        rising = [put_in(body, terms)]
+        for at in reversed(range(len(spot))):
+            rising.append(with_child(chain[at], spot[at], rising[-1]))
+        rising.reverse()
+        if self.is_deep:
+            if measures(rising[0])[1] > DEEPEST:
+                raise TooGreat(size)
+            self.is_deep = False
+        self.size = size
+        return rising
+
+
+def step_made(scope, term, spot, whole):
+    """The term behind a step at the spot, None where none goes there; TooGreat."""
+    try:
+        chain = chain_to(term, spot)
+    except NoSpot:
+        return None
+    comes = coming(scope, chain[-1])
+    return None if comes is None else whole.made(chain, spot, comes)[0]
 
 
 def step_at(scope, term, spot):
     """The whole term behind a step at the spot, None where none goes; TooGreat of one beyond the bounds."""
-    try:
-        here = part_at(term, spot)
-    except NoSpot:
-        return None
-    made = stepped(scope, here)
-    if made is None:
-        return None
-    whole = with_part(term, spot, made)
-    size, depth = measures(whole)
-    if size > GREATEST or depth > DEEPEST:
-        raise TooGreat(size)
-    return whole
+    return step_made(scope, term, spot, Whole(term))
 
 
 def walked(scope, term, way):
     """The term behind all steps of the way, None where one goes no step."""
     if not isinstance(way, tuple):
         return None
+    if not way:
+        return term
+    whole = Whole(term)
     for spot in way:
         try:
-            term = step_at(scope, term, spot)
+            term = step_made(scope, term, spot, whole)
         except TooGreat:
             return None
         if term is None:

@@ -1,17 +1,17 @@
 """Names, marks, terms, their parts and spots.
 
 Terms that were told may be far deeper than Python's calls may nest, so
-nothing here goes down a term by calling itself.
+nothing here goes down a term by calling itself, but for its first levels.
 """
 
 from kindsbyworth.errors import NoSpot
 
-LETTERS = "abcdefghijklmnopqrstuvwxyz"
-FIGURES = "0123456789"
 LONGEST_NAME = 8
 MOST_FIGURES = 40
 HIGHEST_WORLD = 9
 MARKS = ("run", "gone")
+# So many terms within one another are gone down by calls, which are faster; deeper ones by a stack.
+SAFE_DEPTH = 40
 
 
 def is_count(thing):
@@ -21,16 +21,16 @@ def is_count(thing):
 
 def is_figures(text):
     """Whether the text is a number as numbers are written."""
-    if not 1 <= len(text) <= MOST_FIGURES or not all([sign in FIGURES for sign in text]):
+    if len(text) > MOST_FIGURES or not text.isascii() or not text.isdigit():
         return False
     return text == "0" or text[0] != "0"
 
 
 def is_name(thing):
     """Whether it is one to eight letters a to z."""
-    if not isinstance(thing, str) or not 1 <= len(thing) <= LONGEST_NAME:
+    if not isinstance(thing, str) or len(thing) > LONGEST_NAME:
         return False
-    return all([sign in LETTERS for sign in thing])
+    return thing.isascii() and thing.isalpha() and thing.islower()
 
 
 def is_far(thing):
@@ -54,35 +54,51 @@ def is_mark(thing):
     return thing in MARKS
 
 
-def has_form(thing):
-    """Whether it is a term, if its parts are."""
-    if not isinstance(thing, tuple) or len(thing) < 2:
-        return False
-    word, many = thing[0], len(thing)
+def is_leaf(word, told):
+    """Whether these two are a term without parts."""
     if word == "at":
-        return many == 2 and is_count(thing[1])
+        return is_count(told)
     if word == "world":
-        return many == 2 and is_count(thing[1]) and thing[1] <= HIGHEST_WORLD
-    if word == "hole":
-        return many == 2 and is_name(thing[1])
-    if word in ("to", "fun", "give"):
-        return many == 4 and is_mark(thing[1])
-    if word in ("family", "call"):
-        return many == 3 and is_near_or_far(thing[1]) and isinstance(thing[2], tuple)
+        return is_count(told) and told <= HIGHEST_WORLD
+    return word == "hole" and is_name(told)
+
+
+def formed_parts(thing):
+    """The parts of what is a term if these are; None of anything else."""
+    if not isinstance(thing, tuple) or not 2 <= len(thing) <= 4:
+        return None
+    word = thing[0]
+    if len(thing) == 2:
+        return () if is_leaf(word, thing[1]) else None
+    if len(thing) == 3:
+        fits = (word == "family" or word == "call") and isinstance(thing[2], tuple)
+        return thing[2] if fits and is_near_or_far(thing[1]) else None
     if word == "shape":
-        return many == 4 and is_near_or_far(thing[1]) and is_name(thing[2]) and isinstance(thing[3], tuple)
-    return False
+        fits = isinstance(thing[3], tuple) and is_near_or_far(thing[1]) and is_name(thing[2])
+        return thing[3] if fits else None
+    fits = (word == "give" or word == "fun" or word == "to") and is_mark(thing[1])
+    return thing[2:] if fits else None
+
+
+def told_holes(thing):
+    """The names of its holes, as often as they stand; None of what is no term, of anything."""
+    found = []
+    left = [thing]
+    while left:
+        here = left.pop()
+        parts = formed_parts(here)
+        if parts is None:
+            return None
+        if parts:
+            left.extend(parts)
+        elif here[0] == "hole":
+            found.append(here[1])
+    return found
 
 
 def is_term(thing):
     """Whether it is a term, of anything."""
-    left = [thing]
-    while left:
-        here = left.pop()
-        if not has_form(here):
-            return False
-        left.extend(parts_of(here))
-    return True
+    return told_holes(thing) is not None
 
 
 def parts_of(term):
@@ -164,20 +180,25 @@ def part_at(term, spot):
     return chain_to(term, spot)[-1]
 
 
+def with_child(term, number, part):
+    """The term with this part in the place of its own of this number."""
+    parts = parts_of(term)
+    return with_parts(term, parts[:number] + (part,) + parts[number + 1:])
+
+
 def with_part(term, spot, part):
     """The term with this part at this spot."""
     chain = chain_to(term, spot)
     made = part
     for depth in reversed(range(len(spot))):
-        number, parts = spot[depth], parts_of(chain[depth])
-        made = with_parts(chain[depth], parts[:number] + (made,) + parts[number + 1:])
+        made = with_child(chain[depth], spot[depth], made)
     return made
 
 
-def with_ats(term, changed):
-    """The term with changed(k, bodies) in the place of each ("at", k) beneath so many bodies."""
+def leaves_by_stack(term, leaf, changed, above):
+    """As leaves_changed, however deep the term is."""
     made = []
-    left = [(term, 0, False)]
+    left = [(term, above, False)]
     while left:
         here, bodies, ready = left.pop()
         parts = parts_of(here)
@@ -186,7 +207,7 @@ def with_ats(term, changed):
             whole = with_parts(here, tuple(made[first:]))
             del made[first:]
             made.append(whole)
-        elif here[0] == "at":
+        elif here[0] == leaf:
             made.append(changed(here[1], bodies))
         else:
             left.append((here, bodies, True))
@@ -195,16 +216,69 @@ def with_ats(term, changed):
     return made[0]
 
 
+def leaves_changed(term, leaf, changed, bodies, left):
+    """The term, beneath so many bodies, with its leaves of this word changed; left tells how much deeper to call."""
+    word = term[0]
+    if word == leaf:
+        return changed(term[1], bodies)
+    if len(term) == 2:
+        return term
+    if left == 0:
+        return leaves_by_stack(term, leaf, changed, bodies)
+    if word == "to" or word == "fun":
+        kind = leaves_changed(term[2], leaf, changed, bodies, left - 1)
+        return (word, term[1], kind, leaves_changed(term[3], leaf, changed, bodies + 1, left - 1))
+    parts = parts_of(term)
+    if not parts:
+        return term
+    return with_parts(term, tuple([leaves_changed(part, leaf, changed, bodies, left - 1) for part in parts]))
+
+
+def with_ats(term, changed):
+    """The term with changed(k, bodies) in the place of each ("at", k) beneath so many bodies."""
+    return leaves_changed(term, "at", changed, 0, SAFE_DEPTH)
+
+
+def with_holes(term, changed):
+    """The term with changed(name, bodies) in the place of each ("hole", name) beneath so many bodies."""
+    return leaves_changed(term, "hole", changed, 0, SAFE_DEPTH)
+
+
+def with_nodes(term, changed):
+    """The term with changed(part) in the place of each of its parts and of itself, from the inside."""
+    made = []
+    left = [(term, False)]
+    while left:
+        here, ready = left.pop()
+        parts = parts_of(here)
+        if ready or not parts:
+            first = len(made) - len(parts)
+            whole = changed(with_parts(here, tuple(made[first:])))
+            del made[first:]
+            made.append(whole)
+        else:
+            left.append((here, True))
+            left.extend([(part, False) for part in reversed(parts)])
+    return made[0]
+
+
 def is_open(term, number):
     """Whether an at of the name with this number stands in it."""
-    return any([part == ("at", number + bodies) for spot, part, bodies in laid_out(term)])
-
-
-def hole_names(term):
-    """The names of its holes as their spots rise, as often as they stand."""
-    return [part[1] for spot, part, bodies in laid_out(term) if part[0] == "hole"]
+    left = [(term, number)]
+    while left:
+        here, wanted = left.pop()
+        word = here[0]
+        if word == "at":
+            if here[1] == wanted:
+                return True
+        elif word == "to" or word == "fun":
+            left.append((here[2], wanted))
+            left.append((here[3], wanted + 1))
+        else:
+            left.extend([(part, wanted) for part in parts_of(here)])
+    return False
 
 
 def holes_in(term):
     """The names of its holes, rising, each once."""
-    return tuple(sorted(set(hole_names(term))))
+    return tuple(sorted(set(told_holes(term))))

@@ -1,0 +1,139 @@
+"""Open names, what solves them, and the equations that do."""
+
+from kindsbyworth.putting import shifted
+from kindsbyworth.sameness import are_same
+from kindsbyworth.terms import is_open, with_ats
+
+# Open names are ats of names further out than any other: so a term of them means the same
+# wherever it stands, however many come behind.
+FURTHEST = 1000000000
+
+
+def name_term(number):
+    """The term of the open name with this number."""
+    return ("at", FURTHEST - number)
+
+
+def number_of(k, bodies):
+    """The number of the open name that an at beneath so many bodies is; of another at no name's."""
+    return FURTHEST - (k - bodies)
+
+
+class Names:
+    """Open names in order, each (mark, kind, may it be solved), what is solved, and the equations left."""
+
+    def __init__(self, bench, prefers_gone):
+        self.bench = bench
+        self.prefers_gone = prefers_gone
+        self.told = []
+        self.solved = {}
+        self.left = []
+        self.is_never = False
+
+    def twin(self):
+        """Names that are as these are, and go on by themselves."""
+        made = Names(self.bench, self.prefers_gone)
+        made.told = list(self.told)
+        made.solved = dict(self.solved)
+        made.left = list(self.left)
+        return made
+
+    def named(self, mark, kind, may):
+        """The term of a new open name."""
+        self.told.append((mark, kind, may))
+        return name_term(len(self.told) - 1)
+
+    def put(self, term):
+        """The term with what is solved put in."""
+        if not self.solved:
+            return term
+
+        def replaced(k, bodies):
+            number = number_of(k, bodies)
+            if number in self.solved:
+                return shifted(self.solved[number], bodies)
+            return ("at", k)
+
+        return with_ats(term, replaced)
+
+    def kind(self, number):
+        """The kind of an open name, what is solved put in."""
+        return self.put(self.told[number][1])
+
+    def is_unsolved(self, number):
+        """Whether it is the number of an open name that isn't solved."""
+        return 0 <= number < len(self.told) and number not in self.solved
+
+    def unsolved(self):
+        """The numbers of the names that aren't solved."""
+        return [number for number in range(len(self.told)) if number not in self.solved]
+
+    def solve(self, number, term):
+        """Let the name be solved by a term in which no solved name stands."""
+        open_ones = [other for other in self.solved if is_open(self.solved[other], FURTHEST - number)]
+        solved = dict(self.solved)
+        self.solved = {number: term}
+        for other in open_ones:
+            solved[other] = self.put(solved[other])
+        solved[number] = term
+        self.solved = solved
+
+    def go_through(self, equations):
+        """Add equations, go through all till none of those left moves; the moves that were done."""
+        self.left = self.left + equations
+        moves = []
+        idle = 0
+        while equations and idle < len(self.left) and not self.is_never:
+            idle = 0 if self._moved(moves) else idle + 1
+        return tuple(moves)
+
+    def _moved(self, moves):
+        """Take the first equation, and tell whether it moved."""
+        one, other = self.left[0]
+        one, other = self._walked(self.put(one), self.put(other), moves)
+        del self.left[0]
+        if are_same(one, other):
+            moves.append(("same",))
+            return True
+        side = self._solving(one, other)
+        if side is not None:
+            by, name = (other, one) if side == 0 else (one, other)
+            self.solve(number_of(name[1], 0), by)
+            moves.extend([("solve", side), ("same",)])
+            return True
+        if one[0] == "shape" and other[0] == "shape" and one[1] == other[1]:
+            self.is_never = one[2] != other[2]
+            if not self.is_never:
+                self.left = list(zip(one[3], other[3])) + self.left
+            moves.append(("never",) if self.is_never else ("peel",))
+            return True
+        self.left.append((one, other))
+        moves.append(("later",))
+        return False
+
+    def _walked(self, one, other, moves):
+        """Both sides as they are if they are the same, else their outcomes."""
+        if are_same(one, other):
+            return one, other
+        way, first = self.bench.outcome(one)
+        further, second = self.bench.outcome(other)
+        if way or further:
+            moves.append(("walk", way, further))
+        return first, second
+
+    def _solving(self, one, other):
+        """The side that is to be solved by the other one, None where neither may be."""
+        sides = [side for side, (here, there) in enumerate([(one, other), (other, one)]) if self._may(here, there)]
+        if len(sides) < 2:
+            return sides[0] if sides else None
+        numbers = [number_of(one[1], 0), number_of(other[1], 0)]
+        if self.prefers_gone:
+            gone = [side for side in sides if self.told[numbers[side]][0] == "gone"]
+            sides = gone if len(gone) == 1 else sides
+        return max(sides, key=lambda side: numbers[side])
+
+    def _may(self, here, there):
+        """Whether it is an unsolved name that may be solved, in which the other one isn't open."""
+        if here[0] != "at" or not self.is_unsolved(number_of(here[1], 0)):
+            return False
+        return self.told[number_of(here[1], 0)][2] and not is_open(there, here[1])
