@@ -20,9 +20,11 @@ def asked(names, patterns, terms):
         pattern, term = left.pop()
         if pattern[0] != "shape":
             continue
-        term = names.put(term)
-        if term[0] == "at" and names.is_unsolved(number_of(term[1], 0)):
-            return "asks", number_of(term[1], 0)
+        if term[0] == "at":
+            number = number_of(term[1], 0)
+            if number not in names.solved:
+                return "asks", number
+            term = names.solved[number]
         within = shape_terms(names.bench.scope, term)
         if within is None:
             return "unclear", None
@@ -53,13 +55,32 @@ def split_told(names, number):
     return way, [with_shape(names, number, head, shape) for shape in shapes]
 
 
+def closed_by(names, number):
+    """The tree of a branch that this run name closes, None where it doesn't."""
+    way, head = names.bench.head(names.kind(number))
+    if head[0] != "family":
+        return None
+    family = family_of(names.bench.scope, head[1])
+    indexes, shapes = family[3], family[5]
+    # Without indexes there are no equations, so no shape comes to never.
+    if shapes and not indexes:
+        return None
+    branches = []
+    for shape in shapes:
+        made, moves = with_shape(names, number, head, shape)
+        if not made.is_never:
+            return None
+        branches.append(moves)
+    return ("empty", number, way, tuple(branches))
+
+
 def emptied(names):
     """The tree of a branch that some run name closes, None where none does."""
     for number in names.unsolved():
         if names.told[number][0] == "run":
-            told = split_told(names, number)
-            if told is not None and all([made.is_never for made, moves in told[1]]):
-                return ("empty", number, told[0], tuple([moves for made, moves in told[1]]))
+            tree = closed_by(names, number)
+            if tree is not None:
+                return tree
     return None
 
 
