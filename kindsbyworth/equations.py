@@ -60,10 +60,6 @@ class Names:
         """The kind of an open name, what is solved put in."""
         return self.put(self.told[number][1])
 
-    def is_unsolved(self, number):
-        """Whether it is the number of an open name that isn't solved."""
-        return 0 <= number < len(self.told) and number not in self.solved
-
     def unsolved(self):
         """The numbers of the names that aren't solved."""
         return [number for number in range(len(self.told)) if number not in self.solved]
@@ -133,7 +129,5 @@ class Names:
         return max(sides, key=lambda side: numbers[side])
 
     def _may(self, here, there):
-        """Whether it is an unsolved name that may be solved, in which the other one isn't open."""
-        if here[0] != "at" or not self.is_unsolved(number_of(here[1], 0)):
-            return False
-        return self.told[number_of(here[1], 0)][2] and not is_open(there, here[1])
+        """Whether it is a name that may be solved, in which the other one isn't open."""
+        return here[0] == "at" and self.told[number_of(here[1], 0)][2] and not is_open(there, here[1])

@@ -26,10 +26,7 @@ def is_told(thing, many):
 def meets(scope, one, way, other, further):
     """Whether the ways lead both terms to one."""
     first = walked(scope, one, way)
-    if first is None:
-        return False
-    second = walked(scope, other, further)
-    return second is not None and are_same(first, second)
+    return first is not None and are_same(first, walked(scope, other, further))
 
 
 def number_by(reader, kind, thing, way, around):

@@ -51,13 +51,11 @@ def refuse_holes(scope, term):
 
 
 def marks_of(scope, term):
-    """The marks of a shape's or call's terms; None of one that nothing has."""
+    """The marks of a shape's or call's terms."""
     if term[0] == "call":
-        definition = definition_of(scope, term[1])
-        return None if definition is None else [mark for mark, kind in definition[1]]
+        return [mark for mark, kind in definition_of(scope, term[1])[1]]
     family = family_of(scope, term[1])
-    shape = None if family is None else shape_of(family, term[2])
-    return None if shape is None else [mark for mark, kind in family[2] + shape[1]]
+    return [mark for mark, kind in family[2] + shape_of(family, term[2])[1]]
 
 
 def is_great(measured):
@@ -72,13 +70,10 @@ def refuse_great(measured):
 
 
 def run_parts(scope, term):
-    """The parts that are run ahead of the term, None where it can't run."""
+    """The parts that are run ahead of the term."""
     if term[0] == "give":
         return [term[2]] if term[1] == "gone" else [term[2], term[3]]
-    parts, marks = parts_of(term), marks_of(scope, term)
-    if marks is None or len(marks) != len(parts):
-        return None
-    return [part for mark, part in zip(marks, parts) if mark == "run"]
+    return [part for mark, part in zip(marks_of(scope, term), parts_of(term)) if mark == "run"]
 
 
 def is_worth(scope, term):
@@ -86,12 +81,10 @@ def is_worth(scope, term):
     left = [term]
     while left:
         here = left.pop()
-        if here[0] in WORTHS:
-            continue
-        parts = run_parts(scope, here) if here[0] == "shape" else None
-        if parts is None:
+        if here[0] == "shape":
+            left.extend(run_parts(scope, here))
+        elif here[0] not in WORTHS:
             return False
-        left.extend(parts)
     return True
 
 
@@ -119,24 +112,20 @@ class Run:
         """The worth that it comes to, None where it sticks."""
         while self.left:
             term, many = self.left.pop()
-            going = self._begin(term) if many is None else self._end(term, many)
-            if not going:
+            if many is None:
+                self._begin(term)
+            elif not self._end(term, many):
                 return None
         return self.worths[0]
 
     def _begin(self, term):
-        """Set down what is to run ahead of the term; False where it can't run."""
-        if term[0] in ("at", "hole"):
-            return False
+        """Keep a worth, or set down what is to run ahead of the term."""
         if term[0] in WORTHS or (is_worth(self.scope, term) and not is_great(measures(term))):
             self._keep(term)
-            return True
+            return
         parts = run_parts(self.scope, term)
-        if parts is None:
-            return False
         self.left.append((term, len(parts)))
         self.left.extend([(part, None) for part in reversed(parts)])
-        return True
 
     def _keep(self, worth):
         """Keep a worth for what waits for it."""

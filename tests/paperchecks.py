@@ -35,6 +35,10 @@ def is_number(thing):
     return isinstance(thing, int) and not isinstance(thing, bool) and thing >= 0
 
 
+def is_unsolved(names, number):
+    return 0 <= number < len(names.told) and number not in names.solved
+
+
 def goes_to(scope, term, way):
     found = walked(scope, term, way)
     sure(found is not None)
@@ -122,10 +126,7 @@ class Moves:
     def solve(self, name, by):
         sure(name[0] == "at")
         number = number_of(name[1], 0)
-        sure(self.names.is_unsolved(number) and self.names.told[number][2] and not is_open(by, name[1]))
-        if self.names.prefers_gone and by[0] == "at" and self.names.is_unsolved(number_of(by[1], 0)):
-            marks = self.names.told[number][0], self.names.told[number_of(by[1], 0)][0]
-            sure(marks != ("run", "gone") or True)
+        sure(is_unsolved(self.names, number) and self.names.told[number][2] and not is_open(by, name[1]))
         self.names.solve(number, by)
 
 
@@ -243,7 +244,7 @@ def check_tree(scope, definition, names, terms, tree, used):
     else:
         told(tree, 4)
         sure(tree[0] == "empty" and not first and is_number(tree[1]))
-        sure(names.is_unsolved(tree[1]) and names.told[tree[1]][0] == "run")
+        sure(is_unsolved(names, tree[1]) and names.told[tree[1]][0] == "run")
         sure(not [made for made in check_split(scope, names, tree[1], tree[2], tree[3]) if made is not None])
 
 

@@ -154,6 +154,29 @@ shape plain"""
         void = ("run V", "gone V", "run (family eq V @1 @0)", "run B")
         self.covers((), void, "* - (same) (yes)")
 
+    def test_lacks_with_plain_terms_of_other_kinds(self):
+        lists = ("gone !0", "run (family list @0)")
+        self.assertEqual(self.lacks(lists, "* (cons * *)")[1][:3], ("shape", "list", "nil"))
+        self.assertEqual(self.lacks(("gone !1", "run N"), "* (zero)"), (t("!0"), number(1)))
+        self.assertEqual(self.lacks(("gone !4", "run B"), "* (yes)"), (t("!3"), t("F")))
+        self.assertEqual(self.lacks(("run (to gone N B)", "run B"), "* (yes)"), (t("(fun gone N Y)"), t("F")))
+        self.assertEqual(self.lacks(("run (family vec B 0)", "run B"), "* (yes)"), (t("(shape vec none B)"), t("F")))
+
+    def test_never_ends_the_moves(self):
+        scope = FAMILIES.with_item(read_item("""family pair 0
+index (family nat)
+index (family nat)
+shape mk
+take gone (family nat)
+end (shape nat zero)
+end @0"""))
+        tree = self.covers((), ("gone N", "run (family pair 1 @0)"), scope=scope)
+        self.assertEqual(tree, ("empty", 1, (), ((("never",),),)))
+        tree = self.covers((), ("gone N", "run (family pair @0 1)", "run (family pair 1 @1)"), scope=scope)
+        self.assertEqual(tree[0], "empty")
+        tree = self.covers((0,), ("gone N", "run (family pair 1 @0)", "run B"), "* (mk *) (yes)", scope=scope)
+        self.assertEqual(tree, ("ask", (), (((("never",),), None),)))
+
     def test_closed_branches(self):
         self.assertEqual(self.covers((), ("run V",)), ("empty", 0, (), ()))
         self.assertEqual(self.covers((), ("run N", "run V")), ("empty", 1, (), ()))

@@ -87,6 +87,11 @@ class CallsTest(unittest.TestCase):
         self.assertEqual(calls_of(item("pred")[1]), ())
         self.assertEqual(calls_of(definitions=item("add")[1]), (("add", 1, "add", "falls"),))
 
+    def test_calls_alone(self):
+        families = definition("f", 1, 0, row((shaped("next", TAKE),), "(family f @0)"),
+                              row((TAKE,), "(shape f f (family f @0) (call f @0))"))
+        self.assertEqual(calls_of((families,)), (("f", 1, "f", "stays"),))
+
     def test_far_names(self):
         far = definition("a.2.b", 1, 0, row((shaped("next", TAKE),), "(call a.2.b @0)"))
         self.assertEqual(calls_of((far,)), (("a.2.b", 0, "a.2.b", "falls"),))

@@ -105,6 +105,11 @@ class WishesTest(unittest.TestCase):
         self.wished(simple("(fun gone (family nat) ?a)", result="(to gone (family nat) (family nat))"),
                     ("a", tele("run N", "gone N"), "run", NAT))
 
+    def test_in_kinds(self):
+        self.wished(simple("(give gone (fun gone (family fin ?a) (shape nat zero)) ?b)"), ("a", tele("run N"), "gone", NAT), ("b", tele("run N"), "gone", t("(family fin (call a @0))")))
+        self.wished(simple("(to run (family fin ?a) (family fin ?b))", result="!0"),
+                    ("a", tele("run N"), "gone", NAT), ("b", tele("run N", "run (family fin (call a @0))"), "gone", NAT))
+
     def test_around_and_wish_are_outcomes(self):
         self.wished(simple("?a", ("take run (call kindby (shape bool yes))",), "(call kindby (shape bool no))"),
                     ("a", tele("run N"), "run", t("B")))

@@ -202,6 +202,12 @@ class FamilyTest(Judging):
         self.let_by(made("family f 1", "param !0", "index N", "index @1", "shape s", "take gone @0", "take gone N",
                          "end (call add @0 1)", "end @1"))
 
+    def test_indexes_of_params(self):
+        self.let_by(made("family f 1", "param !0", "param @0", "index @1", "index (family eq @2 @1 @0)", "shape s", "end @0",
+                         "end (shape eq same @1 @0)"))
+        self.let_by(made("family f 1", "param !0", "param @0", "index @1", "index (family eq @2 @1 @0)", "shape s", "take gone N", "end @1",
+                         "end (shape eq same @2 @1)"))
+
     def test_ends_have_not_the_family(self):
         start = ("family f 0", "index !0", "index !0")
         self.refused(Holds, {"shape": "s", "k": 0}, made(*start, "shape s", "end (family f N N)", "end N"))
@@ -320,6 +326,57 @@ class LotTest(Judging):
                                      "result N"))
         self.refused(Unclear, {"name": "f"}, made("define f -", "take gone N", "take run (family vec N (call add @0 0))",
                                                   "take run (family eq N @1 0)", "result N", "row - (none) (same)", "body 0"), scope)
+
+    def test_of_two_due_names_the_later_one_whatever_their_marks(self):
+        for first, second in (("run", "run"), ("run", "gone"), ("gone", "run"), ("gone", "gone")):
+            lines = ("define f -", f"take {first} N", f"take {second} N", "take run (family eq N @1 @0)", "take run (family eq N @2 0)", "result N",
+                     "row - - (same) (same)", "body 0")
+            self.assertEqual(self.let_by(made(*lines))[0][3][0][0][0], ((), (("solve", 0), ("same",))))
+            turned = [line.replace("(family eq N @1 @0)", "(family eq N @0 @1)") for line in lines]
+            self.assertEqual(self.let_by(made(*turned))[0][3][0][0][0], ((), (("solve", 1), ("same",))))
+
+    def test_left_for_a_later_place(self):
+        paper = self.let_by(made("define f -", "take gone N", "take run (family vec N (call add @0 0))", "take run (family eq N @1 0)",
+                                 "take run B", "result N", "row - * (same) (yes)", "body 0", "row - (none) (same) (no)", "body 1"))
+        self.assertEqual(paper[0][3][1][0][:2], (
+            ((), (("later",),)), ((), (("later",), ("solve", 1), ("same",), ("walk", ((),), ()), ("same",)))))
+
+    def test_sides_that_are_the_same_of_takes(self):
+        paper = self.let_by(made("define f -", "take gone N", "take run (family eq N @0 @0)", "result N", "row * (same)", "body 0"))
+        self.assertEqual(paper[0][3][0][0], (((), (("same",),)),))
+
+    def test_several_equations(self):
+        scope = SCOPE.with_item(made("family two 0", "index N", "index N", "shape mk", "take gone N", "take gone N", "end @1", "end @0"))
+        scope = scope.with_item(made("family both 0", "index N", "index N", "shape at", "take gone N", "end 0", "end @0"))
+        paper = self.let_by(made("define f -", "take gone N", "take run (family both 0 @0)", "result N", "row * (at -)", "body 0"), scope)
+        self.assertEqual(paper[0][3][0][0], (((), (("same",), ("solve", 1), ("same",))),))
+        self.row("never", "define f -", "take gone N", "take run (family eq N @0 1)", "take run (family eq N @1 0)", "result N",
+                 "row - (same) (same)", "body 0")
+        self.let_by(made("define f -", "take gone N", "take run (family both 1 @0)", "result N"), scope)
+        self.let_by(made("define f -", "take gone N", "take gone N", "take run (family two @1 @0)", "result N", "row - - (mk * *)", "body 0"), scope)
+
+    def test_walks_of_either_side(self):
+        for index, lines in (("1", ()), ("(call add 0 1)", ()), ("(call add 1 (call add 0 0))", ())):
+            for other in ("1", "(call add 1 0)"):
+                paper = self.let_by(made("define f -", f"take run (family eq N {index} {other})", "result N", "row (same)", "body 0"))
+                self.assertEqual(paper[0][3][0][0][0][1][-1], ("same",))
+
+    def test_families_that_are_unlike_are_no_never(self):
+        scope = SCOPE.with_item(made("family rep 0", "index !0", "shape ofnat", "end N", "shape ofbool", "end B"))
+        self.row_in(scope, "unclear", "define f -", "take run (family rep B)", "result N", "row (ofnat)", "body 0")
+        self.let_by(made("define f -", "take run (family rep N)", "result N", "row *", "body 0"), scope)
+        self.row_in(scope, "unclear", "define f -", "take gone N", "take run (family eq N @0 0)", "result N", "row * (same)", "body 0")
+
+    def row_in(self, scope, word, *lines):
+        self.refused(NoRow, {"row": 0, "word": word}, made(*lines), scope)
+
+    def test_names_beneath_bodies_in_kinds(self):
+        self.let_by(made("define f -", "take gone N", "take run (to run N (family fin @1))", "take run (family eq N @1 1)",
+                         "result (to gone B (to run N (family fin 1)))", "row - * (same)", "body (fun gone B @1)"))
+        self.let_by(made("define f -", "take gone N", "take run (to gone N (family fin @0))", "take gone N",
+                         "result (to gone N (family fin @0))", "row * * *", "body @1"))
+        self.let_by(made("define f -", "take gone N", "take gone N", "take run (to run B (to gone N (family eq N @3 @0)))",
+                         "result (to run B (to gone N (family eq N @4 @0)))", "row * * *", "body @0"))
 
     def test_solved_by_a_take(self):
         self.let_by(made("define f -", "take gone N", "take gone N", "take run (family eq N @1 @0)", "result (family eq N @1 @2)",

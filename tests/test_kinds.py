@@ -280,6 +280,16 @@ class FitTest(Refusing):
         self.unfit((1,), "around", "(fun run N @5)", "N")
         self.unfit((), "unlike", "(fun run N 0)", "@0", tele("gone !0"))
 
+    def test_what_is_no_fun_beneath_a_to(self):
+        self.fits("(give run (fun run N (fun run N @0)) 0)", "(to run N N)")
+        self.fits("(give run (fun run N (fun run N @0)) 0)", "(to run (call kindby Y) N)")
+        self.unfit((), "unlike", "(give run (fun run N (fun run N @0)) 0)", "(to run B N)")
+        self.unfit((), "unlike", "(to run N N)", "(to run N N)")
+
+    def test_a_fun_beneath_what_is_no_to(self):
+        self.unfit((), "unlike", "(fun run N @0)", "(give run @0 0)", tele("run (to run N !0)"))
+        self.unfit((1,), "around", "(fun run B @7)", "(give run @0 0)", tele("run (to run N !0)"))
+
     def test_a_fun_s_own_kind_goes_around_its_body(self):
         self.fits("(fun run (call kindby Y) (fun run (family eq N @0 @0) @0))",
                   "(to run N (to run (family eq N @0 @0) (family eq N @1 @1)))")
@@ -316,6 +326,14 @@ class BoundsTest(Refusing):
 
 
 class WholeTest(Refusing):
+    def test_no_names_around_and_manner_run_where_none_is_told(self):
+        around = tele("gone N")
+        for asked in (lambda **more: kind_of(SCOPE, ("at", 0), **more), lambda **more: fit(SCOPE, ("at", 0), NAT, **more)):
+            for more, word in (({}, "around"), ({"manner": "gone"}, "around"), ({"around": around}, "gone")):
+                with self.assertRaises(Unjudged) as caught:
+                    asked(**more)
+                self.assertEqual((caught.exception.spot, caught.exception.word), ((), word))
+
     def test_by_names_and_unchanged(self):
         around = tele("run N")
         self.assertEqual(kind_of(scope=SCOPE, term=("at", 0), around=around, manner="gone", most=9), NAT)

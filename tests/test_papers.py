@@ -103,6 +103,14 @@ class PaperTest(unittest.TestCase):
         with self.assertRaises(TooLong):
             kind_paper(SCOPE, t("(call sym N 9 (call add 5 4) (shape eq same N 9))"), most=5)
 
+    def test_no_names_around_and_manner_run_where_none_is_told(self):
+        for asked in (lambda **more: kind_paper(SCOPE, ("at", 0), **more),
+                      lambda **more: fit_paper(SCOPE, ("at", 0), NAT, **more)):
+            for more, word in (({}, "around"), ({"around": tele("gone N")}, "gone")):
+                with self.assertRaises(Unjudged) as caught:
+                    asked(**more)
+                self.assertEqual(caught.exception.word, word)
+
     def test_by_names_and_unchanged(self):
         around = tele("run N")
         self.assertEqual(kind_paper(scope=SCOPE, term=("at", 0), around=around, manner="gone", most=5), ())

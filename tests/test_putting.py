@@ -1,9 +1,9 @@
 import unittest
 from itertools import product
 
-from kindsbyworth.putting import put_in, shifted
-from kindsbyworth.terms import is_open, is_term, part_at, size_of
-from tests.samples import NAT, TERMS, ZERO, deep_term, wide_term
+from kindsbyworth.putting import put_in, put_measures, shifted
+from kindsbyworth.terms import is_open, is_term, measures, part_at, size_of
+from tests.samples import NAT, TERMS, ZERO, deep_term, number, wide_term
 
 OPEN = ("call", "f", (("at", 0), ("at", 1), ("at", 2), ("at", 3)))
 
@@ -119,6 +119,16 @@ class PutInTest(unittest.TestCase):
 
     def test_by_names(self):
         self.assertEqual(put_in(body=("at", 0), terms=(NAT,)), NAT)
+
+
+class MeasuresTest(unittest.TestCase):
+    def test_as_though_put_in(self):
+        terms = TERMS + (number(5), ("fun", "run", ("at", 0), ("fun", "run", ("at", 1), ("call", "x", (("at", 2), ("at", 0))))))
+        for body in terms:
+            for one in terms:
+                self.assertEqual(put_measures(body, ()), measures(body))
+                self.assertEqual(put_measures(body, (one,)), measures(put_in(body, (one,))))
+                self.assertEqual(put_measures(body, (one, number(3))), measures(put_in(body, (one, number(3)))))
 
 
 if __name__ == "__main__":

@@ -7,6 +7,7 @@ from kindsbyworth.kinds import fit, kind_of
 from kindsbyworth.reckoning import are_alike, outcome_way
 from kindsbyworth.running import run_of
 from kindsbyworth.scopes import Scope
+from kindsbyworth.terms import size_of
 from tests.library import t, whole
 from tests.samples import NAT, next_of, number
 from tests.test_kinds import ENDLESS, JUDGED
@@ -119,6 +120,35 @@ class RunTest(unittest.TestCase):
         with self.assertRaises(TooGreat) as caught:
             run_of(SCOPE, t(text.format(40)))
         self.assertEqual(caught.exception.size, 42)
+
+    def test_a_body_too_great_though_its_worth_is_not(self):
+        drop = "(give run (fun run N (give gone (fun gone N 0) (S @0))) {})"
+        self.assertEqual(run_of(SCOPE, t(drop.format(38))), (number(0), 2))
+        with self.assertRaises(TooGreat) as caught:
+            run_of(SCOPE, t(drop.format(40)))
+        self.assertEqual(caught.exception.size, 4 + 42)
+        scope = with_items("""define drop -
+take run (family nat)
+result (family nat)
+row *
+body (give gone (fun gone (family nat) (shape nat zero)) (shape nat next @0))""")
+        self.assertEqual(run_of(scope, t("(call drop 38)")), (number(0), 2))
+        with self.assertRaises(TooGreat) as caught:
+            run_of(scope, t("(call drop 39)"), most=1)
+        self.assertEqual(caught.exception.size, 4 + 41)
+
+    def test_at_the_bound(self):
+        def wide(many, last):
+            inner = ("shape", "list", "nil", (NAT,))
+            for at in range(many):
+                inner = ("shape", "list", "cons", (NAT, number(last if at == many - 1 else 20), inner))
+            return inner
+
+        self.assertEqual(run_of(SCOPE, wide(17, 27))[1], 0)
+        self.assertEqual(size_of(wide(17, 27)), 400)
+        with self.assertRaises(TooGreat) as caught:
+            run_of(SCOPE, wide(17, 28))
+        self.assertEqual(caught.exception.size, 401)
 
     def test_a_worth_too_great(self):
         self.assertEqual(run_of(SCOPE, number(40)), (number(40), 0))

@@ -133,6 +133,35 @@ class SmallerTest(unittest.TestCase):
         self.fit("(fun run N @0)", "(to run (call kindby Y) N)", ("under", ((0,),), (), (), (), (), PLAIN), True)
         self.fit("(fun run N @0)", "(to run (call kindby Y) N)", ("under", (), (), (), (), (), PLAIN), False)
 
+    def test_words_of_fits(self):
+        for word in ("as", "under", "at", "", None, True, ("as",)):
+            self.fit("0", "N", (word, (), (), ()), word == "as")
+            self.fit("(fun run N @0)", "(to run N N)", (word, (), (), (), (), (), PLAIN), word == "under")
+
+    def test_what_is_no_fun_beneath_a_to(self):
+        self.fit("(to run N N)", "(to run N !0)", ("under", (), (), (), (), (), PLAIN), False)
+        self.fit("(to run N N)", "!0", PLAIN[:1] + (((), (), (), ()),) + PLAIN[2:], True)
+        self.fit("(give run @0 0)", "(to run N N)", ("under", (), (), (), (), (), PLAIN), False, tele("run (to run N N)"))
+
+    def test_what_is_no_to(self):
+        around = tele("run (to run N !0)", "run (give run @0 0)")
+        self.kind("(give run @0 0)", ((), (), PLAIN), None, around)
+        self.kind("(give run @0 0)", ((), (), ("as", (), (), ())), None, around)
+        self.kind("(give run (to run N N) 0)", (((), (), (), ()), (), PLAIN), None)
+
+    def test_manners(self):
+        around = tele("gone N", "gone !0")
+        self.kind("(S @1)", (PLAIN,), None, around)
+        self.kind("(S @1)", (PLAIN,), "N", around, "gone")
+        self.kind("(call add @1 0)", (PLAIN, PLAIN), None, around)
+        self.kind("(shape box boxed N @1)", (PLAIN, PLAIN), "(family box N)", around)
+        self.kind("(shape list nil @0)", (PLAIN,), "(family list @0)", around)
+        self.kind("(fun run @0 0)", ((), (), ()), "(to run @0 N)", around)
+        self.assertIsNone(kind_by(SCOPE, ("at", 1), (), around=around))
+        self.assertIs(fit_holds(SCOPE, ("at", 1), NAT, PLAIN, around=around), False)
+        self.assertIsNone(kind_by(SCOPE, ("at", 0), ()))
+        self.assertIs(fit_holds(SCOPE, ("at", 0), NAT, PLAIN), False)
+
     def test_no_calls_of_open_items_and_no_holes(self):
         scope = SCOPE.with_item(("open", "wish", (), NAT))
         self.kind("(call wish)", (), None, scope=scope)
@@ -140,6 +169,8 @@ class SmallerTest(unittest.TestCase):
         self.fit("(call wish)", "N", PLAIN, False, scope=scope)
         for thing in ((), PLAIN, (PLAIN,), None):
             self.kind("?a", thing, None)
+            self.kind("?nat", thing, None)
+            self.kind("?add", thing, None)
             self.fit("?a", "N", thing, False)
             self.kind("(S ?a)", (thing,), None)
 
