@@ -217,6 +217,28 @@ take gone (family void)"""))
         telescope = ("gone N", "run N", "run (family eq N (call add @1 1) @0)", "run B")
         self.unclear(telescope, "* * (same) (yes)", "* (zero) * (no)", "* (next *) * (no)")
 
+    def test_unclear_at_another_term_whatever_rows_follow(self):
+        telescope = ("gone N", "run N", "run (family eq N (call add @1 1) @0)", "run B")
+        self.unclear(telescope, "* * (same) (yes)", "* (zero) * (no)", "* * * *")
+        self.covers((), telescope, "* * (same) (yes)", "* * * (no)")
+
+    def test_unclear_where_the_name_s_kind_is_no_family(self):
+        self.unclear(("run (to run N N)",), "(zero)", "*")
+        self.unclear(("gone !0", "run @0"), "* (zero)", "* *")
+        self.unclear(("run B", "run (call kindby @0)"), "* (zero)", "* *")
+
+    def test_what_comes_of_a_gone_name_is_gone(self):
+        scope = FAMILIES
+        for text in ("family hold 0\nshape held\ntake run (family void)\nshape free",
+                     "family pk 0\nshape pk\ntake run (family hold)",
+                     "family wr 0\nindex (family pk)\nshape mk\ntake gone (family hold)\nend (shape pk pk @0)",
+                     "family rw 0\nindex (family pk)\nshape mk\ntake run (family hold)\nend (shape pk pk @0)"):
+            scope = scope.with_item(read_item(text))
+        for family, word in (("wr", "unclear"), ("rw", "covers")):
+            telescope = ("run (family pk)", f"run (family {family} @0)", "run B")
+            told = told_by(scope, table(telescope, "* (mk *) (yes)", "(pk (free)) * (no)"))
+            self.assertEqual(told[0], word)
+
     def test_unclear_where_an_equation_is_left(self):
         telescope = ("gone N", "run (family vec N (call add @0 0))", "run (family eq N @1 0)")
         self.unclear(telescope, "- (none) (same)")

@@ -110,6 +110,9 @@ class WishesTest(unittest.TestCase):
         self.wished(simple("(to run (family fin ?a) (family fin ?b))", result="!0"),
                     ("a", tele("run N"), "gone", NAT), ("b", tele("run N", "run (family fin (call a @0))"), "gone", NAT))
 
+        self.wished(simple("(to run (call kindby ?a) (family nat))", result="!0"), ("a", tele("run N"), "gone", t("B")))
+        self.wished(simple("(call kindby ?a)", result="!0"), ("a", tele("run N"), "run", t("B")))
+
     def test_around_and_wish_are_outcomes(self):
         self.wished(simple("?a", ("take run (call kindby (shape bool yes))",), "(call kindby (shape bool no))"),
                     ("a", tele("run N"), "run", t("B")))
