@@ -1,28 +1,17 @@
-"""Telescopes, families, patterns, definitions, lots: what they are by form."""
+"""Telescopes, families, patterns, definitions, lots: what they are by form.
+
+Scopes ask this of many items; so the frame of an item is gone through first,
+and its terms, and its patterns, then all at once.
+"""
 
 from kindsbyworth.terms import is_count, is_mark, is_name, is_near_or_far, told_holes
 
 HIGHEST_FAMILY = 8
 
 
-def is_whole(thing):
-    """Whether it is a term without holes."""
-    return told_holes(thing) == []
-
-
-def is_telescope(thing):
-    """Whether it is a tuple of (mark, kind), no kind with a hole."""
-    if not isinstance(thing, tuple):
-        return False
-    return all([
-        isinstance(pair, tuple) and len(pair) == 2 and is_mark(pair[0]) and is_whole(pair[1])
-        for pair in thing
-    ])
-
-
-def is_gone_telescope(thing):
-    """Whether it is a telescope all marks of which are gone."""
-    return is_telescope(thing) and all([mark == "gone" for mark, kind in thing])
+def are_whole(things):
+    """Whether all are terms without holes."""
+    return told_holes(things) == []
 
 
 def are_unlike(names):
@@ -30,14 +19,33 @@ def are_unlike(names):
     return len(set(names)) == len(names)
 
 
-def is_shape(thing, many):
-    """Whether it is a family's shape, with as many ends as there are indexes."""
+def kinds_of(thing):
+    """What stands for kinds in a tuple of (mark, kind); None of anything else."""
+    if not isinstance(thing, tuple):
+        return None
+    kinds = []
+    for pair in thing:
+        if not isinstance(pair, tuple) or len(pair) != 2 or not is_mark(pair[0]):
+            return None
+        kinds.append(pair[1])
+    return kinds
+
+
+def gone_kinds(thing):
+    """As kinds_of, but None where a mark isn't gone, too."""
+    kinds = kinds_of(thing)
+    return None if kinds is None or [pair for pair in thing if pair[0] != "gone"] else kinds
+
+
+def shape_terms_of(thing, many):
+    """What stands for terms in a family's shape, with as many ends as there are indexes; None of what is none."""
     if not isinstance(thing, tuple) or len(thing) != 3:
-        return False
+        return None
     name, arguments, ends = thing
-    if not is_name(name) or not is_telescope(arguments) or not isinstance(ends, tuple):
-        return False
-    return len(ends) == many and all([is_whole(end) for end in ends])
+    kinds = kinds_of(arguments)
+    if not is_name(name) or kinds is None or not isinstance(ends, tuple) or len(ends) != many:
+        return None
+    return kinds + list(ends)
 
 
 def is_family(thing):
@@ -45,18 +53,23 @@ def is_family(thing):
     if not isinstance(thing, tuple) or len(thing) != 6 or thing[0] != "family":
         return False
     name, params, indexes, world, shapes = thing[1:]
-    if not is_near_or_far(name) or not is_gone_telescope(params) or not is_gone_telescope(indexes):
+    if not is_near_or_far(name) or not is_count(world) or world > HIGHEST_FAMILY or not isinstance(shapes, tuple):
         return False
-    if not is_count(world) or world > HIGHEST_FAMILY or not isinstance(shapes, tuple):
+    of_params, of_indexes = gone_kinds(params), gone_kinds(indexes)
+    if of_params is None or of_indexes is None:
         return False
-    if not all([is_shape(shape, len(indexes)) for shape in shapes]):
-        return False
-    return are_unlike([shape[0] for shape in shapes])
+    terms = of_params + of_indexes
+    for shape in shapes:
+        of_shape = shape_terms_of(shape, len(indexes))
+        if of_shape is None:
+            return False
+        terms.extend(of_shape)
+    return are_unlike([shape[0] for shape in shapes]) and are_whole(terms)
 
 
-def is_pattern(thing):
-    """Whether it is a pattern; as deep as patterns may stand, so no call of itself."""
-    left = [thing]
+def are_patterns(things):
+    """Whether all are patterns; as deep as patterns may stand, so no call of itself."""
+    left = list(things)
     while left:
         here = left.pop()
         if here == ("take",) or here == ("due",):
@@ -69,14 +82,17 @@ def is_pattern(thing):
     return True
 
 
-def row_holes(thing, many):
-    """The names of the holes of a row of so many patterns; None of what is none."""
-    if not isinstance(thing, tuple) or len(thing) != 2 or not isinstance(thing[0], tuple):
+def row_frames(thing, many):
+    """(patterns, bodies) of what are rows of so many patterns, if these are such; None of anything else."""
+    if not isinstance(thing, tuple):
         return None
-    patterns, body = thing
-    if len(patterns) != many or not all([is_pattern(pattern) for pattern in patterns]):
-        return None
-    return told_holes(body)
+    patterns, bodies = [], []
+    for row in thing:
+        if not isinstance(row, tuple) or len(row) != 2 or not isinstance(row[0], tuple) or len(row[0]) != many:
+            return None
+        patterns.extend(row[0])
+        bodies.append(row[1])
+    return patterns, bodies
 
 
 def definition_holes(thing):
@@ -84,19 +100,15 @@ def definition_holes(thing):
     if not isinstance(thing, tuple) or len(thing) != 5:
         return None
     name, telescope, result, less, rows = thing
-    if not is_near_or_far(name) or not is_telescope(telescope) or not is_whole(result):
+    kinds = kinds_of(telescope)
+    if not is_near_or_far(name) or kinds is None:
         return None
     if less is not None and not (is_count(less) and less < len(telescope)):
         return None
-    if not isinstance(rows, tuple):
+    frames = row_frames(rows, len(telescope))
+    if frames is None or not are_patterns(frames[0]) or not are_whole(kinds + [result]):
         return None
-    found = []
-    for row in rows:
-        holes = row_holes(row, len(telescope))
-        if holes is None:
-            return None
-        found.extend(holes)
-    return found
+    return told_holes(frames[1])
 
 
 def is_lot(thing):
@@ -125,7 +137,8 @@ def is_open_item(thing):
     """Whether it is an open item, as a Scope may have one for a hole."""
     if not isinstance(thing, tuple) or len(thing) != 4 or thing[0] != "open":
         return False
-    return is_name(thing[1]) and is_telescope(thing[2]) and is_whole(thing[3])
+    kinds = kinds_of(thing[2])
+    return is_name(thing[1]) and kinds is not None and are_whole(kinds + [thing[3]])
 
 
 def names_of(item):
@@ -139,6 +152,4 @@ def holes_of(item):
     """The names of an item's holes, rising."""
     if item[0] != "lot":
         return ()
-    return tuple(sorted([
-        hole for definition in item[1] for patterns, body in definition[4] for hole in told_holes(body)
-    ]))
+    return tuple(sorted(told_holes([body for definition in item[1] for patterns, body in definition[4]])))

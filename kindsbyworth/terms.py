@@ -30,7 +30,7 @@ def is_name(thing):
     """Whether it is one to eight letters a to z."""
     if not isinstance(thing, str) or len(thing) > LONGEST_NAME:
         return False
-    return thing.isascii() and thing.isalpha() and thing.islower()
+    return thing.isalpha() and thing.islower() and thing.isascii()
 
 
 def is_far(thing):
@@ -80,10 +80,10 @@ def formed_parts(thing):
     return thing[2:] if fits else None
 
 
-def told_holes(thing):
-    """The names of its holes, as often as they stand; None of what is no term, of anything."""
+def told_holes(things):
+    """The names of the holes of all these, as often as they stand; None where one is no term, of anything."""
     found = []
-    left = [thing]
+    left = list(things)
     while left:
         here = left.pop()
         parts = formed_parts(here)
@@ -98,7 +98,7 @@ def told_holes(thing):
 
 def is_term(thing):
     """Whether it is a term, of anything."""
-    return told_holes(thing) is not None
+    return told_holes([thing]) is not None
 
 
 def parts_of(term):
@@ -281,4 +281,4 @@ def is_open(term, number):
 
 def holes_in(term):
     """The names of its holes, rising, each once."""
-    return tuple(sorted(set(told_holes(term))))
+    return tuple(sorted(set(told_holes([term]))))
