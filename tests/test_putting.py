@@ -121,6 +121,37 @@ class PutInTest(unittest.TestCase):
         self.assertEqual(put_in(body=("at", 0), terms=(NAT,)), NAT)
 
 
+def plainly_shifted(term, many, bodies=0):
+    """By the words of the document alone, as deep as Python's calls may go."""
+    if term[0] == "at":
+        return ("at", term[1] + many) if term[1] >= bodies else term
+    if term[0] in ("fun", "to"):
+        return term[:2] + (plainly_shifted(term[2], many, bodies), plainly_shifted(term[3], many, bodies + 1))
+    if term[0] == "give":
+        return term[:2] + (plainly_shifted(term[2], many, bodies), plainly_shifted(term[3], many, bodies))
+    if isinstance(term[-1], tuple):
+        return term[:-1] + (tuple(plainly_shifted(part, many, bodies) for part in term[-1]),)
+    return term
+
+
+class DeepTest(unittest.TestCase):
+    def test_beneath_many_bodies(self):
+        for inner in (("at", 0), ("at", 30), ("at", 99), ("at", 100), ("at", 150), ("hole", "a"), ("world", 0)):
+            term = inner
+            for turn in range(200):
+                term = (("fun", "run", ("at", turn), term), ("call", "f", (("at", turn), term, ("at", 99))),
+                        ("to", "gone", term, ("at", 1)), ("give", "run", term, ("at", turn)))[turn % 4]
+            self.assertEqual(shifted(term, 7), plainly_shifted(term, 7))
+            self.assertEqual(shifted(put_in(term, (NAT,)), 7), plainly_shifted(put_in(term, (NAT,)), 7))
+            self.assertEqual(put_in(shifted(term, 1), (NAT,)), term)
+
+    def test_put_in_beneath_many_bodies(self):
+        for depth in (10, 39, 40, 41, 42, 100):
+            body = under(depth, ("call", "f", (("at", depth), ("at", depth + 1), ("at", depth - 1), ("at", depth + 2))))
+            wanted = under(depth, ("call", "f", (("at", depth + 5), ZERO, ("at", depth - 1), ("at", depth))))
+            self.assertEqual(put_in(body, (ZERO, ("at", 5))), wanted)
+
+
 class MeasuresTest(unittest.TestCase):
     def test_as_though_put_in(self):
         terms = TERMS + (number(5), ("fun", "run", ("at", 0), ("fun", "run", ("at", 1), ("call", "x", (("at", 2), ("at", 0))))))
