@@ -19,6 +19,18 @@ def number_of(k, bodies):
     return FURTHEST - (k - bodies)
 
 
+def with_solved(term, solved):
+    """The term with what is solved, a dict from numbers of open names to terms, put in."""
+    if not solved:
+        return term
+
+    def replaced(k, bodies):
+        number = number_of(k, bodies)
+        return shifted(solved[number], bodies) if number in solved else ("at", k)
+
+    return with_ats(term, replaced)
+
+
 class Names:
     """Open names in order, each (mark, kind, may it be solved), what is solved, and the equations left."""
 
@@ -45,16 +57,7 @@ class Names:
 
     def put(self, term):
         """The term with what is solved put in."""
-        if not self.solved:
-            return term
-
-        def replaced(k, bodies):
-            number = number_of(k, bodies)
-            if number in self.solved:
-                return shifted(self.solved[number], bodies)
-            return ("at", k)
-
-        return with_ats(term, replaced)
+        return with_solved(term, self.solved)
 
     def kind(self, number):
         """The kind of an open name, what is solved put in."""
@@ -65,13 +68,11 @@ class Names:
         return [number for number in range(len(self.told)) if number not in self.solved]
 
     def solve(self, number, term):
-        """Let the name be solved by a term in which no solved name stands."""
-        open_ones = [other for other in self.solved if is_open(self.solved[other], FURTHEST - number)]
-        solved = dict(self.solved)
-        self.solved = {number: term}
-        for other in open_ones:
-            solved[other] = self.put(solved[other])
-        solved[number] = term
+        """Let the name be solved by a term in which no solved name stands, and put it in all others."""
+        solved = {number: term}
+        for other in self.solved:
+            told = self.solved[other]
+            solved[other] = with_solved(told, {number: term}) if is_open(told, FURTHEST - number) else told
         self.solved = solved
 
     def go_through(self, equations):
@@ -123,10 +124,10 @@ class Names:
         if len(sides) < 2:
             return sides[0] if sides else None
         numbers = [number_of(one[1], 0), number_of(other[1], 0)]
-        if self.prefers_gone:
-            gone = [side for side in sides if self.told[numbers[side]][0] == "gone"]
-            sides = gone if len(gone) == 1 else sides
-        return max(sides, key=lambda side: numbers[side])
+        gone = [side for side in sides if self.told[numbers[side]][0] == "gone"]
+        if self.prefers_gone and len(gone) == 1:
+            return gone[0]
+        return 0 if numbers[0] > numbers[1] else 1
 
     def _may(self, here, there):
         """Whether it is a name that may be solved, in which the other one isn't open."""
