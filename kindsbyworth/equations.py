@@ -2,7 +2,7 @@
 
 from kindsbyworth.putting import shifted
 from kindsbyworth.sameness import are_same
-from kindsbyworth.terms import is_open, with_ats
+from kindsbyworth.terms import bodies_above, is_open, parts_of, with_ats
 
 # Open names are ats of names further out than any other: so a term of them means the same
 # wherever it stands, however many come behind.
@@ -19,11 +19,23 @@ def number_of(k, bodies):
     return FURTHEST - (k - bodies)
 
 
-def with_solved(term, solved):
-    """The term with what is solved, a dict from numbers of open names to terms, put in."""
-    if not solved:
-        return term
+def names_in(term, solved):
+    """The numbers of those open names of a dict that stand in the term."""
+    found = []
+    left = [(term, 0)]
+    while left:
+        here, bodies = left.pop()
+        if here[0] == "at":
+            if number_of(here[1], bodies) in solved:
+                found.append(number_of(here[1], bodies))
+            continue
+        for at, part in enumerate(parts_of(here)):
+            left.append((part, bodies + bodies_above(here, at)))
+    return found
 
+
+def with_solved(term, solved):
+    """The term with the terms of a dict put in for the open names that have these numbers there."""
     def replaced(k, bodies):
         number = number_of(k, bodies)
         return shifted(solved[number], bodies) if number in solved else ("at", k)
@@ -32,13 +44,18 @@ def with_solved(term, solved):
 
 
 class Names:
-    """Open names in order, each (mark, kind, may it be solved), what is solved, and the equations left."""
+    """Open names in order, each (mark, kind, may it be solved), what is solved, and the equations left.
+
+    A name is solved by a term of names that weren't solved then; what they
+    were solved by later is put in only when it is asked for.
+    """
 
     def __init__(self, bench, prefers_gone):
         self.bench = bench
         self.prefers_gone = prefers_gone
         self.told = []
         self.solved = {}
+        self.wholes = {}
         self.left = []
         self.is_never = False
 
@@ -57,7 +74,22 @@ class Names:
 
     def put(self, term):
         """The term with what is solved put in."""
-        return with_solved(term, self.solved)
+        numbers = names_in(term, self.solved)
+        if not numbers:
+            return term
+        self._make_whole(numbers)
+        return with_solved(term, self.wholes)
+
+    def _make_whole(self, numbers):
+        """Put all that is solved in what these names are solved by, the inner ones first."""
+        left = [number for number in numbers if number not in self.wholes]
+        while left:
+            told = self.solved[left[-1]]
+            inner = [number for number in names_in(told, self.solved) if number not in self.wholes]
+            if inner:
+                left.extend(inner)
+            else:
+                self.wholes[left.pop()] = with_solved(told, self.wholes)
 
     def kind(self, number):
         """The kind of an open name, what is solved put in."""
@@ -68,12 +100,9 @@ class Names:
         return [number for number in range(len(self.told)) if number not in self.solved]
 
     def solve(self, number, term):
-        """Let the name be solved by a term in which no solved name stands, and put it in all others."""
-        solved = {number: term}
-        for other in self.solved:
-            told = self.solved[other]
-            solved[other] = with_solved(told, {number: term}) if is_open(told, FURTHEST - number) else told
-        self.solved = solved
+        """Let the name be solved by a term in which no solved name stands."""
+        self.solved[number] = term
+        self.wholes = {}
 
     def go_through(self, equations):
         """Add equations, go through all till none of those left moves; the moves that were done."""

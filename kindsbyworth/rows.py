@@ -8,6 +8,26 @@ from kindsbyworth.putting import put_in
 from kindsbyworth.terms import laid_out, with_ats
 
 
+class Places:
+    """Places beside one another that are gone through: those of a row, or those within a shape pattern.
+
+    Of those within one, ask tells (the number of its ask, the way of its kind, the head of this, the shape).
+    """
+
+    def __init__(self, patterns, telescope, ahead, ask):
+        self.patterns = patterns
+        self.telescope = telescope
+        self.terms = ahead
+        self.ask = ask
+        self.begun = 0
+
+    def begin(self):
+        """The pattern, mark and kind of the next place."""
+        mark, kind = self.telescope[self.begun]
+        self.begun = self.begun + 1
+        return self.patterns[self.begun - 1], mark, put_in(kind, self.terms)
+
+
 class Row:
     """A row that is gone through: its open names, its takes among them, its ways and moves."""
 
@@ -18,37 +38,47 @@ class Row:
         self.takes = []
         self.asks = []
 
-    def places(self, patterns, telescope, ahead):
-        """The terms of these places, those ahead there put in the kinds of the telescope."""
-        terms = ahead
-        for pattern, (mark, kind) in zip(patterns, telescope):
-            terms = terms + (self.place(pattern, mark, put_in(kind, terms)),)
-        return terms[len(ahead):]
+    def go_through(self, patterns, telescope):
+        """The terms of the row's places; NoRow."""
+        left = [Places(patterns, telescope, (), None)]
+        while True:
+            here = left[-1]
+            if here.begun < len(here.patterns):
+                pattern, mark, kind = here.begin()
+                if pattern[0] == "shape":
+                    left.append(self.entered(pattern, mark, kind))
+                else:
+                    here.terms = here.terms + (self.named(pattern, mark, kind),)
+                continue
+            left.pop()
+            if not left:
+                return here.terms
+            left[-1].terms = left[-1].terms + (self.left_behind(here),)
 
-    def place(self, pattern, mark, kind):
-        """The term of a place of this mark and kind."""
-        if pattern[0] == "shape":
-            return self.shape_place(pattern, mark, kind)
+    def named(self, pattern, mark, kind):
+        """The term of a take or due."""
         if pattern[0] == "take":
             self.takes.append(len(self.names.told))
         return self.names.named(mark, kind, pattern[0] == "due")
 
-    def shape_place(self, pattern, mark, kind):
-        """The term of a shape pattern; no place around it is gone, or that one was refused."""
+    def entered(self, pattern, mark, kind):
+        """The places within a shape pattern; no place around it is gone, or that one was refused."""
         if mark == "gone":
             raise NoRow(self.number, "gone")
         way, head = self.bench.head(self.names.put(kind))
         family, shape = self.shape_meant(pattern, head)
-        many = len(family[2])
-        params, indexes = head[2][:many], head[2][many:]
-        at = len(self.asks)
         self.asks.append(None)
-        terms = params + self.places(pattern[2], shape[1], params)
-        moves = self.names.go_through([(index, put_in(end, terms)) for index, end in zip(indexes, shape[2])])
+        return Places(pattern[2], shape[1], head[2][:len(family[2])], (len(self.asks) - 1, way, head, shape))
+
+    def left_behind(self, places):
+        """The term of a shape pattern behind its last place, where its equations come."""
+        at, way, head, shape = places.ask
+        indexes = head[2][len(head[2]) - len(shape[2]):]
+        moves = self.names.go_through([(index, put_in(end, places.terms)) for index, end in zip(indexes, shape[2])])
         if self.names.is_never:
             raise NoRow(self.number, "never")
         self.asks[at] = (way, moves)
-        return ("shape", family[1], shape[0], terms)
+        return ("shape", head[1], shape[0], places.terms)
 
     def shape_meant(self, pattern, head):
         """The family of a head, and its shape that the pattern means."""
@@ -102,7 +132,7 @@ def row_told(bench, definition, number):
     """The paper of a row: its asks, the ways of its takes, the fit of its body; NoRow, Unjudged."""
     patterns, body = definition[4][number]
     row = Row(bench, number)
-    terms = row.places(patterns, definition[1], ())
+    terms = row.go_through(patterns, definition[1])
     row.refuse_unclear()
     ways, around = row.take_kinds()
     solved = tuple([row.names.put(term) for term in terms])

@@ -461,6 +461,25 @@ class LotTest(Judging):
         lot = ("lot", (("f", (), deep, None, (((), t("(shape vec none B)")),)),))
         self.refused(TooGreat, {"size": 44}, lot)
 
+    def test_the_terms_of_places_are_put_in_the_result(self):
+        start = ("define f -", "take run N", "take run (family list B)", "result (family eq N @1 @1)")
+        for row, body in (("(next (next *)) *", "(S (S @1))"), ("(next (next (next *))) (cons * (cons * *))", "(S (S (S @3)))"),
+                          ("(zero) (cons * *)", "0"), ("(next (zero)) *", "1"), ("* *", "@1")):
+            lines = start + ("row " + row, f"body (shape eq same N {body})", "row * *", "body (shape eq same N @1)")
+            if row == "* *":
+                lines = lines[:6]
+            self.let_by(made(*lines))
+            self.refused(Unjudged, {"spot": (), "word": "unlike"}, made(*lines[:5], f"body (shape eq same N (S {body}))"))
+
+    def test_patterns_within_one_another(self):
+        pattern = ("take",)
+        for _ in range(120):
+            pattern = ("shape", "next", (pattern,))
+        lot = ("lot", (("f", (("run", NAT),), NAT, 0, (((pattern,), ("call", "f", (("at", 0),))), ((("take",),), ZERO))),))
+        paper = judged(SCOPE, lot)
+        self.assertEqual(len(paper[0][3][0][0]), 120)
+        self.refused(NoRow, {"row": 0, "word": "gone"}, ("lot", (("f", (("gone", NAT),), NAT, 0, lot[1][0][4]),)))
+
     def test_holes_are_lifted_first(self):
         lot = made("define f 0", "take run N", "result N", "row (zero)", "body ?b", "row (next *)", "body (call add ?a (call f @0))")
         paper = self.let_by(lot)
