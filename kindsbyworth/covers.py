@@ -20,7 +20,8 @@ def asked(names, patterns, terms):
         pattern, term = left.pop()
         if pattern[0] != "shape":
             continue
-        if term[0] == "at":
+        # A name may be solved by another one, and this later on.
+        while term[0] == "at":
             number = number_of(term[1], 0)
             if number not in names.solved:
                 return "asks", number

@@ -213,6 +213,13 @@ take gone (family void)"""))
         tree = self.covers((), ("run V", "run V", "run (family eq V @1 @0)", "run B"), "* - (same) (yes)")
         self.assertEqual(tree[2][0][1][2][1][1][:2], ("empty", 0))
 
+    def test_a_name_that_another_name_solves_is_asked_as_this(self):
+        telescope = ("run N", "run N", "run (family eq N @1 @0)", "run B")
+        tree = self.covers((), telescope, "* - (same) (yes)", "* (zero) * (no)", "* (next *) * (no)")
+        self.assertEqual(tree[2][0][1][2][1][1], ("ask", (), (((), ("row", 1)), ((), ("row", 2)))))
+        telescope = ("gone N", "run N", "run N", "run (family eq N @2 @1)", "run (family eq N @3 @1)", "run B")
+        self.covers((), telescope, "* - - (same) (same) (yes)", "- (zero) (zero) (same) * (no)", "* (next *) * * * (no)")
+
     def test_unclear_at_another_term(self):
         telescope = ("gone N", "run N", "run (family eq N (call add @1 1) @0)", "run B")
         self.unclear(telescope, "* * (same) (yes)", "* (zero) * (no)", "* (next *) * (no)")
@@ -332,6 +339,26 @@ class AllArgumentsTest(unittest.TestCase):
                 self.assertEqual(told[0], "lacks")
                 self.assertIn("passes", {word for word, row, found in taken})
         self.assertEqual(sorted(seen), ["covers", "lacks"])
+
+    def test_names_that_solve_names(self):
+        chance = random.Random(6)
+        telescope = tele("run N", "run N", "run N", "run (family eq N @2 @1)", "run (family eq N @2 @1)", "run B")
+        arguments = [(number(many),) * 3 + (("shape", "eq", "same", (NAT, number(many))),) * 2 + (t(word),)
+                     for many in range(5) for word in "YF"]
+        words = {}
+        for _ in range(400):
+            rows = []
+            for _ in range(chance.randrange(1, 7)):
+                patterns = [any_pattern(chance, "nat", 2) for _ in range(3)]
+                patterns = patterns + [chance.choice((shaped("same"), TAKE)) for _ in range(2)]
+                rows.append((tuple(patterns + [any_pattern(chance, "bool", 1)]), ZERO))
+            told = told_by(FAMILIES, ("f", telescope, NAT, None, tuple(rows)))
+            words[told[0]] = words.get(told[0], 0) + 1
+            taken = {word for word, row, found in [rows_met(FAMILIES, ("f", telescope, NAT, None, rows), terms)
+                                                   for terms in arguments]}
+            self.assertEqual(told[0] == "covers", taken == {"takes"})
+        self.assertGreater(min(words["covers"], words["lacks"]), 30)
+        self.assertLess(words.get("unclear", 0), words["lacks"])
 
     def test_vectors_and_indexes(self):
         """Rows over lengths and vectors: what is told to cover takes all of few levels."""

@@ -471,6 +471,13 @@ class LotTest(Judging):
             self.let_by(made(*lines))
             self.refused(Unjudged, {"spot": (), "word": "unlike"}, made(*lines[:5], f"body (shape eq same N (S {body}))"))
 
+    def test_the_terms_of_places_within_one_another(self):
+        scope = SCOPE.with_item(made("family bits 0", "param N", "shape nil", "shape cons", "take run B", "take run (family bits @1)"))
+        lines = ("define f -", "take run N", "take run (family bits 1)", "result (family eq (family bits 1) @0 @0)",
+                 "row * (cons * (cons * *))", "body (shape eq same (family bits 1) (shape bits cons 1 @2 (shape bits cons 1 @1 @0)))",
+                 "row * *", "body (shape eq same (family bits 1) @0)")
+        self.let_by(made(*lines), scope)
+
     def test_patterns_within_one_another(self):
         pattern = ("take",)
         for _ in range(120):
