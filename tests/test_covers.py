@@ -356,7 +356,10 @@ class AllArgumentsTest(unittest.TestCase):
             words[told[0]] = words.get(told[0], 0) + 1
             taken = {word for word, row, found in [rows_met(FAMILIES, ("f", telescope, NAT, None, rows), terms)
                                                    for terms in arguments]}
-            self.assertEqual(told[0] == "covers", taken == {"takes"})
+            if told[0] == "covers":
+                self.assertEqual(taken, {"takes"})
+            if taken != {"takes"}:
+                self.assertIn(told[0], ("lacks", "unclear"))
         self.assertGreater(min(words["covers"], words["lacks"]), 30)
         self.assertLess(words.get("unclear", 0), words["lacks"])
 
