@@ -14,6 +14,7 @@ from kindsbyworth.putting import put_in
 from kindsbyworth.steps import rows_met
 from tests.library import ORDER, TEXTS, item, scope_of, t, tele, whole
 from tests.paperchecks import check_tree
+from tests.plaincover import plain_cover
 from tests.samples import DUE, NAT, ODD_THINGS, TAKE, ZERO, next_of, number, shaped
 
 SCOPE = whole()
@@ -126,6 +127,14 @@ shape plain"""
         self.assertIn(told[0], ("lacks", "unclear"))
         self.assertEqual(self.lacks(("run B", "run (family odd)"), "(yes) (plain)", "(no) (only *)", scope=scope),
                          (t("F"), ("shape", "odd", "plain", ())))
+
+    def test_lacks_with_a_shape_without_arguments_wherever_it_stands(self):
+        for shapes in ("shape only\ntake run (family void)\nshape plain\nshape last",
+                       "shape deep\ntake run (family odd)\ntake run (family odd)\nshape plain", "shape plain"):
+            scope = FAMILIES.with_item(read_item("family odd 0\n" + shapes))
+            for mark in ("run", "gone"):
+                told = self.lacks((f"{mark} (family odd)", "run N", "run B"), "* (next *) *", "* (zero) (yes)", scope=scope)
+                self.assertEqual(told, (("shape", "odd", "plain", ()), ZERO, t("F")))
 
     def test_vectors(self):
         vec = ("gone N", "run (family vec N @0)")
@@ -372,6 +381,44 @@ class AllArgumentsTest(unittest.TestCase):
             if taken != {"takes"}:
                 self.assertEqual(told[0], "lacks")
         self.assertGreater(min(words["covers"], words["lacks"]), 10)
+
+    def test_as_by_the_words_of_the_document_alone(self):
+        chance = random.Random(2)
+        telescopes = [tele(*pairs) for pairs in (
+            ("run N", "run N", "run (family eq N @1 @0)", "run B"), ("gone N", "run N", "run (family eq N @1 @0)", "run B"),
+            ("run N", "gone N", "run (family eq N @1 @0)", "run (family vec B @2)"),
+            ("gone N", "run (family vec B @0)", "run (family vec B @1)", "run (family fin @2)"),
+            ("gone N", "run (family fin (S @0))", "run (family vec B @1)"),
+            ("gone N", "run (family vec B (call add @0 1))", "run (family eq N @1 1)"),
+            ("run B", "run (call kindby @0)", "run (family eq N 0 0)"),
+            ("run N", "gone N", "run (family eq N (call add @1 1) @0)", "run (family fin @1)"),
+            ("gone !0", "gone @0", "gone @1", "run (family eq @2 @1 @0)", "run (family eq @3 @2 @1)"),
+            ("run N", "run (family vec N @0)", "run (family vec N @1)"))]
+        words = {}
+        for _ in range(700):
+            telescope = chance.choice(telescopes)
+            rows = tuple([(tuple([self.any_place(chance, mark, kind) for mark, kind in telescope]), ZERO)
+                          for _ in range(chance.randrange(1, 6))])
+            told = told_by(FAMILIES, ("f", telescope, NAT, None, rows))
+            plain = plain_cover(FAMILIES, ("f", telescope, NAT, None, rows))
+            words[told[0]] = words.get(told[0], 0) + 1
+            if told[0] == "unclear":
+                self.assertIn(plain[0], ("unclear", "lacks"))
+            else:
+                self.assertEqual(told[::2] if told[0] == "covers" else told[:1], plain)
+        self.assertGreater(min(words.values()), 30)
+
+    def any_place(self, chance, mark, kind):
+        return self.any_of(chance, kind[1] if kind[0] == "family" and mark == "run" else None, 2)
+
+    def any_of(self, chance, family, levels):
+        """A pattern of this family, of shapes with inner ones of theirs; None is of none."""
+        shapes = {"nat": (("zero",), ("next", "nat")), "bool": (("yes",), ("no",)), "eq": (("same",),),
+                  "vec": (("none",), ("some", None, "bool", "vec")), "fin": (("first", None), ("further", None, "fin"))}
+        if family is None or levels == 0 or chance.random() < 0.4:
+            return chance.choice((TAKE, DUE))
+        name, *inner = chance.choice(shapes[family])
+        return shaped(name, *[self.any_of(chance, one, levels - 1) for one in inner])
 
     def test_vectors_and_indexes(self):
         """Rows over lengths and vectors: what is told to cover takes all of few levels."""
