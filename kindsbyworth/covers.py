@@ -1,9 +1,10 @@
 """Whether the rows of a definition cover all that they may be called with."""
 
-from kindsbyworth.bench import Bench, fitted
+from kindsbyworth.bench import Bench
 from kindsbyworth.equations import Names, number_of
 from kindsbyworth.errors import Holed, TooMuch, Unjudged
 from kindsbyworth.inhabiting import filled_names
+from kindsbyworth.judges import fitted
 from kindsbyworth.limits import MOST
 from kindsbyworth.putting import put_in
 from kindsbyworth.running import run_of

@@ -1,7 +1,8 @@
 """Families judged: their telescopes, and that their shapes hold them only where they may."""
 
-from kindsbyworth.bench import Bench, fitted, kind_of_world, own_names
+from kindsbyworth.bench import Bench, own_names
 from kindsbyworth.errors import Holds, Unjudged
+from kindsbyworth.judges import fitted, kind_of_world
 from kindsbyworth.putting import put_in
 from kindsbyworth.terms import parts_of
 

@@ -1,6 +1,7 @@
 """Kinds of terms, and whether terms fit kinds."""
 
-from kindsbyworth.bench import Bench, fitted, kind_told
+from kindsbyworth.bench import Bench
+from kindsbyworth.judges import fitted, kind_told
 from kindsbyworth.limits import MOST
 
 

@@ -1,9 +1,10 @@
 """Lots judged as far as the bodies of their rows."""
 
-from kindsbyworth.bench import HOLE_SIGN, Bench, kind_of_world
+from kindsbyworth.bench import HOLE_SIGN, Bench
 from kindsbyworth.errors import NoItem, Taken
 from kindsbyworth.families import telescope_told
 from kindsbyworth.items import holes_of, is_item, names_of
+from kindsbyworth.judges import kind_of_world
 from kindsbyworth.lifting import lifted_with
 from kindsbyworth.rows import row_told
 

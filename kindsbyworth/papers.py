@@ -1,6 +1,7 @@
 """The papers of kinds and fits, for the smaller judge."""
 
-from kindsbyworth.bench import Bench, fitted, kind_told
+from kindsbyworth.bench import Bench
+from kindsbyworth.judges import fitted, kind_told
 from kindsbyworth.limits import MOST
 
 

@@ -1,13 +1,16 @@
 """The smaller judge of terms: it reads papers, and reckons nothing.
 
 It goes single steps, shifts, puts in and compares; papers are of anything.
+What is within a term is read by tasks of its own.
 """
 
-from kindsbyworth.bench import at_kind, wanted_of
+from kindsbyworth.bench import around_part, leaf_told, wanted_of
 from kindsbyworth.errors import Unjudged
 from kindsbyworth.putting import put_in
 from kindsbyworth.sameness import are_same
 from kindsbyworth.steps import walked
+from kindsbyworth.tasks import done
+from kindsbyworth.terms import parts_of
 
 
 class Reader:
@@ -29,49 +32,18 @@ def meets(scope, one, way, other, further):
     return first is not None and are_same(first, walked(scope, other, further))
 
 
-def number_by(reader, kind, thing, way, around):
-    """The number of the world of a kind, by the paper and the way; None of what are none."""
-    judged = told_by(reader, kind, thing, around, "gone")
-    if judged is None:
-        return None
-    world = walked(reader.scope, judged, way)
+def world_by(reader, kind, way):
+    """The number of the world to which the way leads; None of a way to no world, or of no kind."""
+    world = None if kind is None else walked(reader.scope, kind, way)
     return world[1] if world is not None and world[0] == "world" else None
 
 
-def to_by(reader, term, thing, around):
-    """The kind of a to."""
-    if not is_told(thing, 4):
+def leaf_by(term, around, manner):
+    """The kind of what has no parts to read; None of what has none."""
+    try:
+        return leaf_told(term, around, manner, ())[0]
+    except Unjudged:
         return None
-    first = number_by(reader, term[2], thing[0], thing[1], around)
-    if first is None:
-        return None
-    second = number_by(reader, term[3], thing[2], thing[3], around + (term[1:3],))
-    return None if second is None else ("world", max(first, second))
-
-
-def fun_by(reader, term, thing, around, manner):
-    """The kind of a fun."""
-    if not is_told(thing, 3) or number_by(reader, term[2], thing[0], thing[1], around) is None:
-        return None
-    body = told_by(reader, term[3], thing[2], around + (term[1:3],), manner)
-    return None if body is None else ("to", term[1], term[2], body)
-
-
-def give_by(reader, term, thing, around, manner):
-    """The kind of a give."""
-    if not is_told(thing, 3):
-        return None
-    mark, function, argument = term[1:]
-    judged = told_by(reader, function, thing[0], around, manner)
-    if judged is None:
-        return None
-    wanted = walked(reader.scope, judged, thing[1])
-    if wanted is None or wanted[0] != "to" or wanted[1] != mark:
-        return None
-    inner = "gone" if mark == "gone" else manner
-    if not fits_by(reader, argument, wanted[2], thing[2], around, inner):
-        return None
-    return put_in(wanted[3], (argument,))
 
 
 def wanted_by(reader, term):
@@ -84,66 +56,153 @@ def wanted_by(reader, term):
         return None
 
 
-def table_by(reader, term, thing, around, manner):
-    """The kind of a family, shape or call."""
-    wanted = wanted_by(reader, term)
-    if wanted is None:
+class Reading:
+    """A term and what may be a paper of its kind: told is this kind, None where it is no paper of it."""
+
+    def __init__(self, reader, term, thing, around, manner):
+        self.reader = reader
+        self.term = term
+        self.thing = thing
+        self.around = around
+        self.manner = manner
+        self.stage = 0
+        self.wanted = None
+        self.told = None
+
+    def go(self, told):
+        """The next task within, by what the one ahead told."""
+        self.stage = self.stage + 1
+        word = self.term[0]
+        if word == "to":
+            return self._to(told) if is_told(self.thing, 4) else None
+        if word == "fun":
+            return self._fun(told) if is_told(self.thing, 3) else None
+        if word == "give":
+            return self._give(told) if is_told(self.thing, 3) else None
+        if word in ("family", "shape", "call"):
+            return self._table(told)
+        if is_told(self.thing, 0):
+            self.told = leaf_by(self.term, self.around, self.manner)
         return None
-    telescope, told = wanted
-    parts = term[-1]
-    if len(parts) != len(telescope) or not is_told(thing, len(parts)):
+
+    def _part(self, number, thing, manner):
+        """The task of reading the paper of a part."""
+        around = around_part(self.term, number, self.around)
+        return Reading(self.reader, parts_of(self.term)[number], thing, around, manner)
+
+    def _fit(self, number, kind, mark, thing):
+        """The task of reading the fit of a part, in manner gone where the mark is."""
+        manner = "gone" if mark == "gone" else self.manner
+        return FitReading(self.reader, parts_of(self.term)[number], kind, thing, self.around, manner)
+
+    def _to(self, told):
+        if self.stage == 1:
+            return self._part(0, self.thing[0], "gone")
+        if self.stage == 2:
+            self.wanted = world_by(self.reader, told, self.thing[1])
+            return None if self.wanted is None else self._part(1, self.thing[2], "gone")
+        world = world_by(self.reader, told, self.thing[3])
+        if world is not None:
+            self.told = ("world", max(self.wanted, world))
         return None
-    for at, (mark, kind) in enumerate(telescope):
-        inner = "gone" if mark == "gone" else manner
-        if not fits_by(reader, parts[at], put_in(kind, parts[:at]), thing[at], around, inner):
+
+    def _fun(self, told):
+        if self.stage == 1:
+            return self._part(0, self.thing[0], "gone")
+        if self.stage == 2:
+            if world_by(self.reader, told, self.thing[1]) is None:
+                return None
+            return self._part(1, self.thing[2], self.manner)
+        if told is not None:
+            self.told = ("to", self.term[1], self.term[2], told)
+        return None
+
+    def _give(self, told):
+        mark = self.term[1]
+        if self.stage == 1:
+            return self._part(0, self.thing[0], self.manner)
+        if self.stage == 3:
+            if told:
+                self.told = put_in(self.wanted[3], self.term[3:])
             return None
-    return put_in(told, parts)
+        self.wanted = None if told is None else walked(self.reader.scope, told, self.thing[1])
+        if self.wanted is None or self.wanted[0] != "to" or self.wanted[1] != mark:
+            return None
+        return self._fit(1, self.wanted[2], mark, self.thing[2])
+
+    def _table(self, told):
+        parts = parts_of(self.term)
+        if self.stage == 1:
+            self.wanted = wanted_by(self.reader, self.term)
+            if self.wanted is None or len(self.wanted[0]) != len(parts) or not is_told(self.thing, len(parts)):
+                return None
+        elif not told:
+            return None
+        at = self.stage - 1
+        if at == len(parts):
+            self.told = put_in(self.wanted[1], parts)
+            return None
+        mark, kind = self.wanted[0][at]
+        return self._fit(at, put_in(kind, parts[:at]), mark, self.thing[at])
 
 
-def leaf_by(term, around, manner):
-    """The kind of a name or a world."""
-    if term[0] == "world":
-        return None if term[1] == 9 else ("world", term[1] + 1)
-    try:
-        return at_kind(term, around, manner, ())
-    except Unjudged:
+class FitReading:
+    """A term, a kind and what may be a fit of both: told is whether it is one."""
+
+    def __init__(self, reader, term, kind, thing, around, manner):
+        self.reader = reader
+        self.term = term
+        self.kind = kind
+        self.thing = thing
+        self.around = around
+        self.manner = manner
+        self.stage = 0
+        self.wanted = None
+        self.told = False
+
+    def go(self, told):
+        """The next task within, by what the one ahead told."""
+        self.stage = self.stage + 1
+        if is_told(self.thing, 4) and self.thing[0] == "as":
+            return self._as(told)
+        if is_told(self.thing, 7) and self.thing[0] == "under":
+            return self._under(told)
         return None
+
+    def _as(self, told):
+        if self.stage == 1:
+            return Reading(self.reader, self.term, self.thing[1], self.around, self.manner)
+        if told is not None:
+            self.told = meets(self.reader.scope, told, self.thing[2], self.kind, self.thing[3])
+        return None
+
+    def _under(self, told):
+        if self.stage == 1:
+            return self._begin_under()
+        if self.stage == 3:
+            self.told = told
+            return None
+        other, left, right, given = self.thing[3:]
+        if world_by(self.reader, told, other) is None:
+            return None
+        if not meets(self.reader.scope, self.term[2], left, self.wanted[2], right):
+            return None
+        around = around_part(self.term, 1, self.around)
+        return FitReading(self.reader, self.term[3], self.wanted[3], given, around, self.manner)
+
+    def _begin_under(self):
+        """The paper of a fun's kind to read, where the wanted kind comes to a to of its mark."""
+        self.wanted = walked(self.reader.scope, self.kind, self.thing[1])
+        if self.term[0] != "fun" or self.wanted is None or self.wanted[0] != "to" or self.wanted[1] != self.term[1]:
+            return None
+        return Reading(self.reader, self.term[2], self.thing[2], self.around, "gone")
 
 
 def told_by(reader, term, thing, around, manner):
     """The kind of a term by a paper; None where it is no paper of it."""
-    word = term[0]
-    if word == "at" or word == "world":
-        return leaf_by(term, around, manner) if is_told(thing, 0) else None
-    if word == "to":
-        return to_by(reader, term, thing, around)
-    if word == "fun":
-        return fun_by(reader, term, thing, around, manner)
-    if word == "give":
-        return give_by(reader, term, thing, around, manner)
-    if word == "hole":
-        return None
-    return table_by(reader, term, thing, around, manner)
-
-
-def is_under(reader, term, kind, thing, around, manner):
-    """Whether a fun fits beneath a to, by what is told of it."""
-    way, paper, other, left, right, given = thing[1:]
-    wanted = walked(reader.scope, kind, way)
-    if term[0] != "fun" or wanted is None or wanted[0] != "to" or wanted[1] != term[1]:
-        return False
-    if number_by(reader, term[2], paper, other, around) is None:
-        return False
-    if not meets(reader.scope, term[2], left, wanted[2], right):
-        return False
-    return fits_by(reader, term[3], wanted[3], given, around + (term[1:3],), manner)
+    return done(Reading(reader, term, thing, around, manner))
 
 
 def fits_by(reader, term, kind, thing, around, manner):
     """Whether it is a fit of the term and the kind."""
-    if is_told(thing, 4) and thing[0] == "as":
-        judged = told_by(reader, term, thing[1], around, manner)
-        return judged is not None and meets(reader.scope, judged, thing[2], kind, thing[3])
-    if is_told(thing, 7) and thing[0] == "under":
-        return is_under(reader, term, kind, thing, around, manner)
-    return False
+    return done(FitReading(reader, term, kind, thing, around, manner))

@@ -1,8 +1,8 @@
 """Rows judged: their places, what is forced there, and their bodies."""
 
-from kindsbyworth.bench import fitted
 from kindsbyworth.equations import Names, number_of
 from kindsbyworth.errors import NoRow
+from kindsbyworth.judges import fitted
 from kindsbyworth.lookups import family_of, shape_of
 from kindsbyworth.putting import put_in
 from kindsbyworth.terms import laid_out, with_ats

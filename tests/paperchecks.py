@@ -10,7 +10,7 @@ from kindsbyworth.equations import Names, number_of
 from kindsbyworth.families import has_family, is_held_well
 from kindsbyworth.holes import lifted, opened, wishes
 from kindsbyworth.putting import put_in
-from kindsbyworth.reading import Reader, fits_by, number_by
+from kindsbyworth.reading import Reader, fits_by, told_by, world_by
 from kindsbyworth.rows import in_takes, is_of_takes
 from kindsbyworth.scopes import Scope
 from kindsbyworth.steps import shape_terms, walked
@@ -45,9 +45,9 @@ def goes_to(scope, term, way):
     return found
 
 
-def world_by(reader, kind, pair, around):
+def world_told(reader, kind, pair, around):
     told(pair, 2)
-    number = number_by(reader, kind, pair[0], pair[1], around)
+    number = world_by(reader, told_by(reader, kind, pair[0], around, "gone"), pair[1])
     sure(number is not None)
     return number
 
@@ -55,7 +55,7 @@ def world_by(reader, kind, pair, around):
 def check_telescope(reader, telescope, thing, around):
     told(thing, len(telescope))
     for pair, one in zip(telescope, thing):
-        world_by(reader, pair[1], one, around)
+        world_told(reader, pair[1], one, around)
         around = around + (pair,)
 
 
@@ -77,7 +77,7 @@ def check_family(scope, family, thing):
         around = family[2]
         for k, (pair, one) in enumerate(zip(arguments, of_arguments)):
             paper, way, held = told(one, 3)
-            sure(world_by(inner, pair[1], (paper, way), around) <= family[4])
+            sure(world_told(inner, pair[1], (paper, way), around) <= family[4])
             sure(is_held_well(family, goes_to(inner.scope, pair[1], held), k))
             around = around + (pair,)
         for j, (end, one) in enumerate(zip(ends, of_ends)):
@@ -251,7 +251,7 @@ def check_tree(scope, definition, names, terms, tree, used):
 def check_definition(reader, outer, definition, thing):
     telescope, result, number, rows, tree = told(thing, 5)
     check_telescope(outer, definition[1], telescope, ())
-    world_by(outer, definition[2], result, definition[1])
+    world_told(outer, definition[2], result, definition[1])
     sure(is_number(number))
     told(rows, len(definition[4]))
     for row, one in zip(definition[4], rows):

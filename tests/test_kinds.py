@@ -322,7 +322,24 @@ class BoundsTest(Refusing):
 
     def test_what_was_told(self):
         self.assertEqual(kind_of(SCOPE, outcome_way(SCOPE, t("(call twice (call add 9 9))"))[1]), NAT)
-        self.assertEqual(kind_of(SCOPE, number(90)), NAT)
+        deep = number(3000)
+        self.assertEqual(kind_of(SCOPE, deep), NAT)
+        self.assertIsNone(fit(SCOPE, deep, t("(call kindby Y)")))
+        with self.assertRaises(Unjudged) as caught:
+            fit(SCOPE, with_part(deep, (0,) * 3000, t("Y")), NAT)
+        self.assertEqual((caught.exception.spot, caught.exception.word), ((0,) * 3000, "unlike"))
+        for around in (lambda term: ("to", "run", NAT, term), lambda term: ("to", "gone", term, NAT)):
+            kinds = NAT
+            for _ in range(1500):
+                kinds = around(kinds)
+            self.assertEqual(kind_of(SCOPE, kinds), W0)
+        funs, gives, kind = ZERO, ("fun", "run", NAT, ("at", 0)), NAT
+        for _ in range(1000):
+            funs, kind = ("fun", "run", NAT, funs), ("to", "run", NAT, kind)
+            gives = ("give", "run", t("(fun run (to run N N) @0)"), gives)
+        self.assertTrue(are_alike(SCOPE, kind_of(SCOPE, funs), kind))
+        self.assertIsNone(fit(SCOPE, funs, kind))
+        self.assertEqual(kind_of(SCOPE, gives), t("(to run N N)"))
 
 
 class WholeTest(Refusing):

@@ -8,7 +8,7 @@ from kindsbyworth.reckoning import are_alike
 from kindsbyworth.scopes import Scope
 from kindsbyworth.smaller import fit_holds, kind_by
 from tests.library import t, tele, whole
-from tests.samples import NAT, ODD_THINGS, ZERO
+from tests.samples import NAT, ODD_THINGS, ZERO, number
 from tests.test_kinds import JUDGED
 
 SCOPE = whole()
@@ -224,6 +224,20 @@ class SmallerTest(unittest.TestCase):
         for text, kind in (("0", "B"), ("(fun run N 0)", "(to run B N)"), ("N", "!1")):
             for thing in fits:
                 self.assertIs(fit_holds(SCOPE, t(text), t(kind), thing), False)
+
+    def test_what_was_told_however_great(self):
+        deep = number(3000)
+        paper = kind_paper(SCOPE, deep)
+        self.assertEqual(kind_by(SCOPE, deep, paper), NAT)
+        self.assertIs(fit_holds(SCOPE, deep, NAT, ("as", paper, (), ())), True)
+        self.assertIs(fit_holds(SCOPE, deep, t("B"), ("as", paper, (), ())), False)
+        self.assertIsNone(kind_by(SCOPE, number(3001), paper))
+        self.assertIsNone(kind_by(SCOPE, number(2999), paper))
+        funs, kind = ZERO, NAT
+        for _ in range(1000):
+            funs, kind = ("fun", "run", NAT, funs), ("to", "run", NAT, kind)
+        self.assertIs(fit_holds(SCOPE, funs, kind, fit_paper(SCOPE, funs, kind)), True)
+        self.assertIs(fit_holds(SCOPE, funs, kind[3], fit_paper(SCOPE, funs, kind)), False)
 
     def test_by_names_and_unchanged(self):
         around = tele("run N")
