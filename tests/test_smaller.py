@@ -133,6 +133,13 @@ class SmallerTest(unittest.TestCase):
         self.fit("(fun run N @0)", "(to run (call kindby Y) N)", ("under", ((0,),), (), (), (), (), PLAIN), True)
         self.fit("(fun run N @0)", "(to run (call kindby Y) N)", ("under", (), (), (), (), (), PLAIN), False)
 
+    def test_ways_that_both_go_no_step(self):
+        for way in (((),), ((0,),), None, [], (None,), ((True,),), 0):
+            self.fit("0", "N", ("as", (), way, way), False)
+            self.fit("0", "B", ("as", (), way, way), False)
+            self.fit("(fun run N @0)", "(to run N N)", ("under", (), (), (), way, way, PLAIN), False)
+            self.fit("(fun run N @0)", "(to run B N)", ("under", (), (), (), way, way, PLAIN), False)
+
     def test_words_of_fits(self):
         for word in ("as", "under", "at", "", None, True, ("as",)):
             self.fit("0", "N", (word, (), (), ()), word == "as")
