@@ -1,7 +1,8 @@
 """Whether the rows of a definition cover all that they may be called with."""
 
+from kindsbyworth.asking import first_asked, opened_names
 from kindsbyworth.bench import Bench
-from kindsbyworth.equations import Names, number_of
+from kindsbyworth.equations import Names
 from kindsbyworth.errors import Holed, TooMuch, Unjudged
 from kindsbyworth.inhabiting import filled_names
 from kindsbyworth.judges import fitted
@@ -9,31 +10,8 @@ from kindsbyworth.limits import MOST
 from kindsbyworth.putting import put_in
 from kindsbyworth.running import run_of
 from kindsbyworth.splits import emptied, split_told
-from kindsbyworth.steps import paired, rows_met, shape_terms
+from kindsbyworth.steps import rows_met
 from kindsbyworth.terms import is_term
-
-
-def asked(names, patterns, terms):
-    """What a row's patterns do first: (word, number), `asks` the name of this number, `passes`,
-    `unclear`, or `takes`."""
-    left = paired(patterns, terms)
-    while left:
-        pattern, term = left.pop()
-        if pattern[0] != "shape":
-            continue
-        # A name may be solved by another one, and this later on.
-        while term[0] == "at":
-            number = number_of(term[1], 0)
-            if number not in names.solved:
-                return "asks", number
-            term = names.solved[number]
-        within = shape_terms(names.bench.scope, term)
-        if within is None:
-            return "unclear", None
-        if term[2] != pattern[1] or len(within) != len(pattern[2]):
-            return "passes", None
-        left.extend(paired(pattern[2], within))
-    return "takes", None
 
 
 class Cover:
@@ -41,12 +19,9 @@ class Cover:
 
     def __init__(self, bench, definition):
         names = Names(bench, True)
-        terms = ()
-        for mark, kind in definition[1]:
-            terms = terms + (names.named(mark, put_in(kind, terms), True),)
         self.bench = bench
         self.definition = definition
-        self.terms = terms
+        self.terms = opened_names(names, definition[1])
         self.left = [(names, None)]
         self.trees = []
         self.taken = {}
@@ -72,21 +47,18 @@ class Cover:
 
     def _told(self, names):
         """Tell a branch, or split it; False where it is unclear."""
-        for row, (patterns, body) in enumerate(self.definition[4]):
-            word, number = asked(names, patterns, self.terms)
-            if word == "takes":
-                self.taken[row] = True
-                self.trees.append(("row", row))
-                return True
-            if word == "asks":
-                return self._split(split_told(names, number))
-            if word == "unclear":
-                return False
-        tree = emptied(names)
-        if tree is None:
-            self.lacking.append(names)
-        self.trees.append(tree)
-        return True
+        word, number = first_asked(self.bench.scope, names, self.definition[4], self.terms)
+        if word == "asks":
+            return self._split(split_told(names, number))
+        if word == "takes":
+            self.taken[number] = True
+            self.trees.append(("row", number))
+        if word == "lacks":
+            tree = emptied(names)
+            if tree is None:
+                self.lacking.append(names)
+            self.trees.append(tree)
+        return word != "unclear"
 
     def _split(self, told):
         """Set down the branches of a split; False where one is unclear."""

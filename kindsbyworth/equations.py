@@ -1,108 +1,23 @@
-"""Open names, what solves them, and the equations that do."""
+"""Equations of open names, and how they solve these."""
 
-from kindsbyworth.putting import shifted
+from kindsbyworth.opennames import OpenNames, number_of
 from kindsbyworth.sameness import are_same
-from kindsbyworth.terms import bodies_above, is_open, parts_of, with_ats
-
-# Open names are ats of names further out than any other: so a term of them means the same
-# wherever it stands, however many come behind.
-FURTHEST = 1000000000
 
 
-def name_term(number):
-    """The term of the open name with this number."""
-    return ("at", FURTHEST - number)
-
-
-def number_of(k, bodies):
-    """The number of the open name that an at beneath so many bodies is; of another at no name's."""
-    return FURTHEST - (k - bodies)
-
-
-def names_in(term, solved):
-    """The numbers of those open names of a dict that stand in the term."""
-    found = []
-    left = [(term, 0)]
-    while left:
-        here, bodies = left.pop()
-        if here[0] == "at":
-            if number_of(here[1], bodies) in solved:
-                found.append(number_of(here[1], bodies))
-            continue
-        for at, part in enumerate(parts_of(here)):
-            left.append((part, bodies + bodies_above(here, at)))
-    return found
-
-
-def with_solved(term, solved):
-    """The term with the terms of a dict put in for the open names that have these numbers there."""
-    def replaced(k, bodies):
-        number = number_of(k, bodies)
-        return shifted(solved[number], bodies) if number in solved else ("at", k)
-
-    return with_ats(term, replaced)
-
-
-class Names:
-    """Open names in order, each (mark, kind, may it be solved), what is solved, and the equations left.
-
-    A name is solved by a term of names that weren't solved then; what they
-    were solved by later is put in only when it is asked for.
-    """
+class Names(OpenNames):
+    """Open names, the equations left of them, and whether these come to never."""
 
     def __init__(self, bench, prefers_gone):
+        OpenNames.__init__(self)
         self.bench = bench
         self.prefers_gone = prefers_gone
-        self.told = []
-        self.solved = {}
-        self.wholes = {}
-        self.left = []
         self.is_never = False
 
     def twin(self):
         """Names that are as these are, and go on by themselves."""
         made = Names(self.bench, self.prefers_gone)
-        made.told = list(self.told)
-        made.solved = dict(self.solved)
-        made.left = list(self.left)
+        made.copy_of(self)
         return made
-
-    def named(self, mark, kind, may):
-        """The term of a new open name."""
-        self.told.append((mark, kind, may))
-        return name_term(len(self.told) - 1)
-
-    def put(self, term):
-        """The term with what is solved put in."""
-        numbers = names_in(term, self.solved)
-        if not numbers:
-            return term
-        self._make_whole(numbers)
-        return with_solved(term, self.wholes)
-
-    def _make_whole(self, numbers):
-        """Put all that is solved in what these names are solved by, the inner ones first."""
-        left = [number for number in numbers if number not in self.wholes]
-        while left:
-            told = self.solved[left[-1]]
-            inner = [number for number in names_in(told, self.solved) if number not in self.wholes]
-            if inner:
-                left.extend(inner)
-            else:
-                self.wholes[left.pop()] = with_solved(told, self.wholes)
-
-    def kind(self, number):
-        """The kind of an open name, what is solved put in."""
-        return self.put(self.told[number][1])
-
-    def unsolved(self):
-        """The numbers of the names that aren't solved."""
-        return [number for number in range(len(self.told)) if number not in self.solved]
-
-    def solve(self, number, term):
-        """Let the name be solved by a term in which no solved name stands."""
-        self.solved[number] = term
-        self.wholes = {}
 
     def go_through(self, equations):
         """Add equations, go through all till none of those left moves; the moves that were done."""
@@ -149,7 +64,7 @@ class Names:
 
     def _solving(self, one, other):
         """The side that is to be solved by the other one, None where neither may be."""
-        sides = [side for side, (here, there) in enumerate([(one, other), (other, one)]) if self._may(here, there)]
+        sides = [side for side, (here, there) in enumerate([(one, other), (other, one)]) if self.may_solve(here, there)]
         if len(sides) < 2:
             return sides[0] if sides else None
         numbers = [number_of(one[1], 0), number_of(other[1], 0)]
@@ -157,7 +72,3 @@ class Names:
         if self.prefers_gone and len(gone) == 1:
             return gone[0]
         return 0 if numbers[0] > numbers[1] else 1
-
-    def _may(self, here, there):
-        """Whether it is a name that may be solved, in which the other one isn't open."""
-        return here[0] == "at" and self.told[number_of(here[1], 0)][2] and not is_open(there, here[1])

@@ -8,17 +8,34 @@ from kindsbyworth.bench import around_part, leaf_told, wanted_of
 from kindsbyworth.errors import Unjudged
 from kindsbyworth.putting import put_in
 from kindsbyworth.sameness import are_same
-from kindsbyworth.steps import walked
+from kindsbyworth.steps import walked_noting
 from kindsbyworth.tasks import done
 from kindsbyworth.terms import parts_of
 
 
 class Reader:
-    """What the smaller judge goes by: a Scope, and a dict of the open items whose calls it lets."""
+    """What the smaller judge goes by: a Scope, a dict of the open items whose calls it lets, and what it
+    notes: a dict whose keys are the names of the definitions that ways unfold."""
 
     def __init__(self, scope, opens):
         self.scope = scope
         self.opens = opens
+        self.noted = {}
+
+    def beside(self, scope, opens):
+        """Another one, which notes in the same place."""
+        made = Reader(scope, opens)
+        made.noted = self.noted
+        return made
+
+    def walked(self, term, way):
+        """The term behind a way, of anything; None where it goes no step."""
+        return walked_noting(self.scope, term, way, self.noted)
+
+    def meets(self, one, way, other, further):
+        """Whether the ways lead both terms to one."""
+        first = self.walked(one, way)
+        return first is not None and are_same(first, self.walked(other, further))
 
 
 def is_told(thing, many):
@@ -26,15 +43,9 @@ def is_told(thing, many):
     return isinstance(thing, tuple) and len(thing) == many
 
 
-def meets(scope, one, way, other, further):
-    """Whether the ways lead both terms to one."""
-    first = walked(scope, one, way)
-    return first is not None and are_same(first, walked(scope, other, further))
-
-
 def world_by(reader, kind, way):
     """The number of the world to which the way leads; None of a way to no world, or of no kind."""
-    world = None if kind is None else walked(reader.scope, kind, way)
+    world = None if kind is None else reader.walked(kind, way)
     return world[1] if world is not None and world[0] == "world" else None
 
 
@@ -125,7 +136,7 @@ class Reading:
             if told:
                 self.told = put_in(self.wanted[3], self.term[3:])
             return None
-        self.wanted = None if told is None else walked(self.reader.scope, told, self.thing[1])
+        self.wanted = None if told is None else self.reader.walked(told, self.thing[1])
         if self.wanted is None or self.wanted[0] != "to" or self.wanted[1] != mark:
             return None
         return self._fit(1, self.wanted[2], mark, self.thing[2])
@@ -173,7 +184,7 @@ class FitReading:
         if self.stage == 1:
             return Reading(self.reader, self.term, self.thing[1], self.around, self.manner)
         if told is not None:
-            self.told = meets(self.reader.scope, told, self.thing[2], self.kind, self.thing[3])
+            self.told = self.reader.meets(told, self.thing[2], self.kind, self.thing[3])
         return None
 
     def _under(self, told):
@@ -185,14 +196,14 @@ class FitReading:
         other, left, right, given = self.thing[3:]
         if world_by(self.reader, told, other) is None:
             return None
-        if not meets(self.reader.scope, self.term[2], left, self.wanted[2], right):
+        if not self.reader.meets(self.term[2], left, self.wanted[2], right):
             return None
         around = around_part(self.term, 1, self.around)
         return FitReading(self.reader, self.term[3], self.wanted[3], given, around, self.manner)
 
     def _begin_under(self):
         """The paper of a fun's kind to read, where the wanted kind comes to a to of its mark."""
-        self.wanted = walked(self.reader.scope, self.kind, self.thing[1])
+        self.wanted = self.reader.walked(self.kind, self.thing[1])
         if self.term[0] != "fun" or self.wanted is None or self.wanted[0] != "to" or self.wanted[1] != self.term[1]:
             return None
         return Reading(self.reader, self.term[2], self.thing[2], self.around, "gone")

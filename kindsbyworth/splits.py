@@ -4,8 +4,8 @@ from kindsbyworth.lookups import family_of
 from kindsbyworth.putting import put_in
 
 
-def with_shape(names, number, head, shape):
-    """Names behind a split, where the name is of this shape of its kind's head, and the moves done for it."""
+def shaped(names, number, head, shape):
+    """Names behind a split, where the name is of this shape of what its kind came to, and the equations of this."""
     made = names.twin()
     many = len(head[2]) - len(shape[2])
     terms = head[2][:many]
@@ -13,7 +13,13 @@ def with_shape(names, number, head, shape):
         own = "gone" if names.told[number][0] == "gone" else mark
         terms = terms + (made.named(own, put_in(kind, terms), True),)
     made.solve(number, ("shape", head[1], shape[0], terms))
-    return made, made.go_through([(index, put_in(end, terms)) for index, end in zip(head[2][many:], shape[2])])
+    return made, [(index, put_in(end, terms)) for index, end in zip(head[2][many:], shape[2])]
+
+
+def with_shape(names, number, head, shape):
+    """Names behind a split, and the moves done for it."""
+    made, equations = shaped(names, number, head, shape)
+    return made, made.go_through(equations)
 
 
 def split_told(names, number):

@@ -105,23 +105,30 @@ class Whole:
         return rising
 
 
-def step_made(scope, term, spot, whole):
-    """The term behind a step at the spot, None where none goes there; TooGreat."""
+def step_made(scope, term, spot, whole, noted):
+    """The term behind a step at the spot, None where none goes there; TooGreat.
+
+    The name of the definition that is unfolded so is set down in noted, a dict.
+    """
     try:
         chain = chain_to(term, spot)
     except NoSpot:
         return None
     comes = coming(scope, chain[-1])
-    return None if comes is None else whole.made(chain, spot, comes)[0]
+    if comes is None:
+        return None
+    if chain[-1][0] == "call":
+        noted[chain[-1][1]] = True
+    return whole.made(chain, spot, comes)[0]
 
 
 def step_at(scope, term, spot):
     """The whole term behind a step at the spot, None where none goes; TooGreat of one beyond the bounds."""
-    return step_made(scope, term, spot, Whole(term))
+    return step_made(scope, term, spot, Whole(term), {})
 
 
-def walked(scope, term, way):
-    """The term behind all steps of the way, None where one goes no step."""
+def walked_noting(scope, term, way, noted):
+    """As walked; the names of the definitions that are unfolded so are set down in noted, a dict."""
     if not isinstance(way, tuple):
         return None
     if not way:
@@ -129,9 +136,14 @@ def walked(scope, term, way):
     whole = Whole(term)
     for spot in way:
         try:
-            term = step_made(scope, term, spot, whole)
+            term = step_made(scope, term, spot, whole, noted)
         except TooGreat:
             return None
         if term is None:
             return None
     return term
+
+
+def walked(scope, term, way):
+    """The term behind all steps of the way, None where one goes no step."""
+    return walked_noting(scope, term, way, {})

@@ -6,7 +6,8 @@ against another reading of them.
 
 from kindsbyworth.bench import Bench
 from kindsbyworth.ends import calls_of
-from kindsbyworth.equations import Names, number_of
+from kindsbyworth.equations import Names
+from kindsbyworth.opennames import number_of
 from kindsbyworth.families import has_family, is_held_well
 from kindsbyworth.holes import lifted, opened, wishes
 from kindsbyworth.putting import put_in
@@ -225,8 +226,12 @@ def check_split(scope, names, number, way, branches):
 
 def check_tree(scope, definition, names, terms, tree, used):
     sure(isinstance(tree, tuple) and tree)
-    words = [asks_first(scope, names, row[0], terms) for row in definition[4]]
-    first = [(word, row) for row, word in enumerate(words) if word[0] != "passes"][:1]
+    first = []
+    for row, (patterns, body) in enumerate(definition[4]):
+        word = asks_first(scope, names, patterns, terms)
+        if word[0] != "passes":
+            first = [(word, row)]
+            break
     if tree[0] == "row":
         told(tree, 2)
         sure(is_number(tree[1]) and first == [(("takes", None), tree[1])])
