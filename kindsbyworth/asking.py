@@ -2,15 +2,13 @@
 
 from kindsbyworth.opennames import number_of
 from kindsbyworth.putting import put_in
-from kindsbyworth.steps import paired, shape_terms
+from kindsbyworth.steps import shape_terms
 
 
 def asked(scope, names, patterns, terms):
     """What a row's patterns do first: (word, number), `asks` the name of this number, `passes`,
     `unclear`, or `takes`."""
-    left = paired(patterns, terms)
-    while left:
-        pattern, term = left.pop()
+    for pattern, term in zip(patterns, terms):
         if pattern[0] != "shape":
             continue
         # A name may be solved by another one, and this later on.
@@ -24,7 +22,9 @@ def asked(scope, names, patterns, terms):
             return "unclear", None
         if term[2] != pattern[1] or len(within) != len(pattern[2]):
             return "passes", None
-        left.extend(paired(pattern[2], within))
+        told = asked(scope, names, pattern[2], within)
+        if told[0] != "takes":
+            return told
     return "takes", None
 
 

@@ -5,21 +5,22 @@ with HOLE_SIGN, so that no typed call is ever taken for it.
 """
 
 from kindsbyworth.errors import Unjudged
-from kindsbyworth.lookups import definition_of, family_of, shape_of
 from kindsbyworth.putting import shifted
 from kindsbyworth.reckoning import alike_ways, head_way, outcome_way
+from kindsbyworth.tasks import Tasks
 from kindsbyworth.terms import bodies_above
 
 HOLE_SIGN = "?"
 
 
 class Bench:
-    """What a judge goes by, and what it notes of holes: (name, around, manner, wish)."""
+    """What a judge goes by, its tasks, and what it notes of holes: by names, (name, around, manner, wish)."""
 
     def __init__(self, scope, most):
         self.scope = scope
         self.most = most
-        self.noted = []
+        self.tasks = Tasks()
+        self.noted = {}
 
     def head(self, kind):
         """The way to a kind's head, and this."""
@@ -69,31 +70,6 @@ def world_way(bench, kind, spot):
     return way, head[1]
 
 
-def wanted_of(scope, term, spot):
-    """The telescope that a term's parts fit, and its kind, those around it; Unjudged of no name."""
-    word, name = term[:2]
-    if word == "call":
-        definition = definition_of(scope, name)
-        if definition is None:
-            raise Unjudged(spot, "name")
-        return definition[1:3]
-    family = family_of(scope, name)
-    if family is None:
-        raise Unjudged(spot, "name")
-    params, indexes, world, shapes = family[2:]
-    if word == "family":
-        return params + indexes, ("world", world)
-    shape = shape_of(family, term[2])
-    if shape is None:
-        raise Unjudged(spot, "name")
-    return params + shape[1], ("family", name, own_names(len(params), len(shape[1])) + shape[2])
-
-
-def own_names(many, further):
-    """The ats of so many names, so many further ones behind them."""
-    return tuple([("at", further + many - 1 - place) for place in range(many)])
-
-
 def around_part(term, number, around):
     """The names around a term's part, those around the term told."""
     return around + (term[1:3],) if bodies_above(term, number) else around
@@ -104,5 +80,6 @@ def held_fit(bench, term, kind, around, manner):
     way, wish = bench.outcome(kind)
     reached = [bench.outcome(one) for mark, one in around]
     telescope = tuple([(pair[0], told[1]) for pair, told in zip(around, reached)])
-    bench.noted.append((term[1][len(HOLE_SIGN):], telescope, manner, wish))
+    name = term[1][len(HOLE_SIGN):]
+    bench.noted[name] = (name, telescope, manner, wish)
     return ("as", tuple([("as", (), told[0], ()) for told in reached]), (), way)

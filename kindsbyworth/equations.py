@@ -1,7 +1,7 @@
 """Equations of open names, and how they solve these."""
 
 from kindsbyworth.opennames import OpenNames, number_of
-from kindsbyworth.sameness import are_same
+from kindsbyworth.sameness import are_same_terms
 
 
 class Names(OpenNames):
@@ -33,7 +33,7 @@ class Names(OpenNames):
         one, other = self.left[0]
         one, other = self._walked(self.put(one), self.put(other), moves)
         del self.left[0]
-        if are_same(one, other):
+        if are_same_terms(one, other):
             moves.append(("same",))
             return True
         side = self._solving(one, other)
@@ -54,7 +54,7 @@ class Names(OpenNames):
 
     def _walked(self, one, other, moves):
         """Both sides as they are if they are the same, else their outcomes."""
-        if are_same(one, other):
+        if are_same_terms(one, other):
             return one, other
         way, first = self.bench.outcome(one)
         further, second = self.bench.outcome(other)

@@ -1,8 +1,9 @@
 """Families judged: their telescopes, and that their shapes hold them only where they may."""
 
-from kindsbyworth.bench import Bench, own_names
+from kindsbyworth.bench import Bench
 from kindsbyworth.errors import Holds, Unjudged
 from kindsbyworth.judges import fitted, kind_of_world
+from kindsbyworth.lookups import own_names
 from kindsbyworth.putting import put_in
 from kindsbyworth.terms import parts_of
 
@@ -76,5 +77,5 @@ def family_told(scope, family, most):
     bench = Bench(scope, most)
     params = telescope_told(bench, family[2], ())
     indexes = telescope_told(bench, family[3], family[2])
-    inner = Bench(scope.with_item(family), most)
+    inner = Bench(scope.grown(family), most)
     return params, indexes, tuple([shape_told(inner, family, shape) for shape in family[5]])

@@ -30,7 +30,7 @@ def wishes(scope, item, *, most=MOST):
     if item[0] == "family":
         return ()
     noted = LotTold(scope, item, most).noted
-    return tuple(sorted([plain_row(row) for row in noted], key=lambda row: row[0]))
+    return tuple([plain_row(noted[name]) for name in sorted(list(noted))])
 
 
 def opened(rows):

@@ -1,9 +1,9 @@
 """The smaller judge of items: it reads their papers, and reckons nothing."""
 
-from kindsbyworth.bench import own_names
 from kindsbyworth.ends import calls_of
 from kindsbyworth.families import has_family, is_held_well
 from kindsbyworth.items import holes_of, is_item, names_of
+from kindsbyworth.lookups import own_names
 from kindsbyworth.lots import waiting
 from kindsbyworth.putting import put_in
 from kindsbyworth.reading import Reader, fits_by, is_told, told_by, world_by
@@ -70,7 +70,7 @@ def family_by(reader, family, thing):
         return False
     if not telescope_by(reader, family[3], thing[1], family[2]):
         return False
-    inner = reader.beside(reader.scope.with_item(family), {})
+    inner = reader.beside(reader.scope.grown(family), {})
     for shape, told in zip(family[5], thing[2]):
         if not shape_by(inner, family, shape, told):
             return False
@@ -125,7 +125,7 @@ def lot_by(reader, lot, thing):
             return False
     if not are_ends_by(definitions, [told[2] for told in thing]):
         return False
-    inner = reader.beside(reader.scope.with_item(waiting(lot)), last_open(reader.scope))
+    inner = reader.beside(reader.scope.grown(waiting(lot)), last_open(reader.scope))
     for definition, told in zip(definitions, thing):
         if not rows_by(inner, definition, told):
             return False

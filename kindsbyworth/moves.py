@@ -2,7 +2,7 @@
 
 from kindsbyworth.opennames import OpenNames, number_of
 from kindsbyworth.reading import is_told
-from kindsbyworth.sameness import are_same
+from kindsbyworth.sameness import are_same_terms
 from kindsbyworth.terms import is_count
 
 PLAIN_MOVES = ("same", "peel", "later")
@@ -66,7 +66,7 @@ class MovedNames(OpenNames):
         """Do a move that is told by its word alone."""
         del self.left[0]
         if word == "same":
-            return are_same(one, other)
+            return are_same_terms(one, other)
         if word == "later":
             self.left.append((one, other))
             return True

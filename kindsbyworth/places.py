@@ -92,7 +92,7 @@ class Row:
         """The numbers of the due names that aren't solved."""
         return [number for number in self.names.unsolved() if self.names.told[number][2]]
 
-    def wanted(self, result, terms):
+    def body_kind(self, result, terms):
         """The kind of the row's body, its takes around it."""
         solved = tuple([self.names.put(term) for term in terms])
         return in_takes(put_in(result, solved), self.takes)

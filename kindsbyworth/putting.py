@@ -1,6 +1,6 @@
 """Shifting terms, and putting terms in for names."""
 
-from kindsbyworth.terms import bodies_above, measures, parts_of, with_ats
+from kindsbyworth.terms import measures, parts_of, with_ats
 
 
 def shifted(term, many):
@@ -16,37 +16,58 @@ def shifted(term, many):
 
 def put_in(body, terms):
     """The body with the last term for number 0, the one ahead of it for 1, and so on."""
-    if not terms:
+    many = len(terms)
+    if many == 0:
         return body
 
     def replaced(k, bodies):
-        if k < bodies:
-            return ("at", k)
         number = k - bodies
-        if number < len(terms):
-            return shifted(terms[len(terms) - 1 - number], bodies)
-        return ("at", k - len(terms))
+        if number < 0:
+            return ("at", k)
+        if number >= many:
+            return ("at", k - many)
+        term = terms[many - 1 - number]
+        return shifted(term, bodies) if bodies else term
 
     return with_ats(body, replaced)
 
 
+class Measured:
+    """How great and how deep a body is, and a dict from each number of a name open in it to (how often it
+    stands there, how deep at most)."""
+
+    def __init__(self, body):
+        self.size = 0
+        self.depth = 0
+        self.names = {}
+        left = [(body, 0, 0)]
+        while left:
+            here, bodies, above = left.pop()
+            self.size = self.size + 1
+            if above > self.depth:
+                self.depth = above
+            if here[0] == "at":
+                if here[1] >= bodies:
+                    self._stands(here[1] - bodies, above)
+            elif here[0] == "to" or here[0] == "fun":
+                left.append((here[2], bodies, above + 1))
+                left.append((here[3], bodies + 1, above + 1))
+            elif len(here) > 2:
+                left.extend([(part, bodies, above + 1) for part in parts_of(here)])
+
+    def _stands(self, number, above):
+        times, deepest = self.names.get(number, (0, 0))
+        self.names[number] = (times + 1, max(deepest, above))
+
+
 def put_measures(body, terms):
     """The measures of the body with these terms put in, told without putting them in."""
-    sizes = {}
-    size, depth = 0, 0
-    left = [(body, 0, 0)]
-    while left:
-        here, bodies, above = left.pop()
-        size = size + 1
-        depth = max(depth, above)
-        if here[0] == "at":
-            number = here[1] - bodies
-            if 0 <= number < len(terms):
-                if number not in sizes:
-                    sizes[number] = measures(terms[len(terms) - 1 - number])
-                size = size + sizes[number][0] - 1
-                depth = max(depth, above + sizes[number][1])
-            continue
-        for at, part in enumerate(parts_of(here)):
-            left.append((part, bodies + bodies_above(here, at), above + 1))
+    measured = Measured(body)
+    size, depth = measured.size, measured.depth
+    for number in measured.names:
+        if number < len(terms):
+            times, deepest = measured.names[number]
+            inner, within = measures(terms[len(terms) - 1 - number])
+            size = size + times * (inner - 1)
+            depth = max(depth, deepest + within)
     return size, depth

@@ -4,12 +4,13 @@ It goes single steps, shifts, puts in and compares; papers are of anything.
 What is within a term is read by tasks of its own.
 """
 
-from kindsbyworth.bench import around_part, leaf_told, wanted_of
+from kindsbyworth.bench import around_part, leaf_told
 from kindsbyworth.errors import Unjudged
+from kindsbyworth.lookups import Wanted, wanted_of
 from kindsbyworth.putting import put_in
-from kindsbyworth.sameness import are_same
+from kindsbyworth.sameness import are_same_terms
 from kindsbyworth.steps import walked_noting
-from kindsbyworth.tasks import done
+from kindsbyworth.tasks import Tasks
 from kindsbyworth.terms import parts_of
 
 
@@ -34,8 +35,8 @@ class Reader:
 
     def meets(self, one, way, other, further):
         """Whether the ways lead both terms to one."""
-        first = self.walked(one, way)
-        return first is not None and are_same(first, self.walked(other, further))
+        first, second = self.walked(one, way), self.walked(other, further)
+        return first is not None and second is not None and are_same_terms(first, second)
 
 
 def is_told(thing, many):
@@ -58,162 +59,123 @@ def leaf_by(term, around, manner):
 
 
 def wanted_by(reader, term):
-    """The telescope that a term's parts fit, and its kind, those around it; None of no name."""
+    """What a term's parts fit, and its kind; None of no name."""
     if term[0] == "call" and term[1] in reader.opens:
-        return reader.opens[term[1]][2:]
-    try:
-        return wanted_of(reader.scope, term, ())
-    except Unjudged:
-        return None
+        return Wanted(reader.opens[term[1]][2], reader.opens[term[1]][3])
+    return wanted_of(reader.scope, term)
 
 
-class Reading:
-    """A term and what may be a paper of its kind: told is this kind, None where it is no paper of it."""
+class SmallerJudge:
+    """Reads papers by what a reader goes by: told are kinds, None where there is no paper of one, and
+    whether there is a fit. Tasks are tuples (term, kind, thing, around, manner), kind None where the term's
+    own is asked; left is how much deeper calls may nest (tasks.py)."""
 
-    def __init__(self, reader, term, thing, around, manner):
+    def __init__(self, reader):
         self.reader = reader
-        self.term = term
-        self.thing = thing
-        self.around = around
-        self.manner = manner
-        self.stage = 0
-        self.wanted = None
-        self.told = None
+        self.tasks = Tasks()
 
-    def go(self, told):
-        """The next task within, by what the one ahead told."""
-        self.stage = self.stage + 1
-        word = self.term[0]
+    def do(self, task, left):
+        """What a task tells: a kind, or whether there is a fit."""
+        term, kind, thing, around, manner = task
+        if kind is None:
+            return self.read_kind(term, thing, around, manner, left)
+        return self.reads_fit(term, kind, thing, around, manner, left)
+
+    def read_kind(self, term, thing, around, manner, left):
+        """The kind of a term by what may be its paper; None of what is none of it."""
+        word = term[0]
+        if len(term) == 2:
+            return leaf_by(term, around, manner) if is_told(thing, 0) else None
+        if left == 0:
+            return self.tasks.deeper((term, None, thing, around, manner))
         if word == "to":
-            return self._to(told) if is_told(self.thing, 4) else None
+            return self._to(term, thing, around, left - 1)
         if word == "fun":
-            return self._fun(told) if is_told(self.thing, 3) else None
+            return self._fun(term, thing, around, manner, left - 1)
         if word == "give":
-            return self._give(told) if is_told(self.thing, 3) else None
-        if word in ("family", "shape", "call"):
-            return self._table(told)
-        if is_told(self.thing, 0):
-            self.told = leaf_by(self.term, self.around, self.manner)
-        return None
+            return self._give(term, thing, around, manner, left - 1)
+        return self._table(term, thing, around, manner, left - 1)
 
-    def _part(self, number, thing, manner):
-        """The task of reading the paper of a part."""
-        around = around_part(self.term, number, self.around)
-        return Reading(self.reader, parts_of(self.term)[number], thing, around, manner)
+    def _world(self, term, number, thing, way, around, left):
+        """The number of the world of a part's kind, by its paper and way; None of no such."""
+        inner = around_part(term, number, around)
+        return world_by(self.reader, self.read_kind(parts_of(term)[number], thing, inner, "gone", left), way)
 
-    def _fit(self, number, kind, mark, thing):
-        """The task of reading the fit of a part, in manner gone where the mark is."""
-        manner = "gone" if mark == "gone" else self.manner
-        return FitReading(self.reader, parts_of(self.term)[number], kind, thing, self.around, manner)
+    def _to(self, term, thing, around, left):
+        if not is_told(thing, 4):
+            return None
+        world = self._world(term, 0, thing[0], thing[1], around, left)
+        if world is None:
+            return None
+        other = self._world(term, 1, thing[2], thing[3], around, left)
+        return None if other is None else ("world", max(world, other))
 
-    def _to(self, told):
-        if self.stage == 1:
-            return self._part(0, self.thing[0], "gone")
-        if self.stage == 2:
-            self.wanted = world_by(self.reader, told, self.thing[1])
-            return None if self.wanted is None else self._part(1, self.thing[2], "gone")
-        world = world_by(self.reader, told, self.thing[3])
-        if world is not None:
-            self.told = ("world", max(self.wanted, world))
-        return None
+    def _fun(self, term, thing, around, manner, left):
+        if not is_told(thing, 3) or self._world(term, 0, thing[0], thing[1], around, left) is None:
+            return None
+        kind = self.read_kind(term[3], thing[2], around_part(term, 1, around), manner, left)
+        return None if kind is None else ("to", term[1], term[2], kind)
 
-    def _fun(self, told):
-        if self.stage == 1:
-            return self._part(0, self.thing[0], "gone")
-        if self.stage == 2:
-            if world_by(self.reader, told, self.thing[1]) is None:
+    def _give(self, term, thing, around, manner, left):
+        if not is_told(thing, 3):
+            return None
+        kind = self.read_kind(term[2], thing[0], around, manner, left)
+        head = None if kind is None else self.reader.walked(kind, thing[1])
+        if head is None or head[0] != "to" or head[1] != term[1]:
+            return None
+        inner = "gone" if term[1] == "gone" else manner
+        if not self.reads_fit(term[3], head[2], thing[2], around, inner, left):
+            return None
+        return put_in(head[3], term[3:])
+
+    def _table(self, term, thing, around, manner, left):
+        """Of a family, shape or call."""
+        parts = parts_of(term)
+        wanted = wanted_by(self.reader, term)
+        if wanted is None or len(wanted.places) != len(parts) or not is_told(thing, len(parts)):
+            return None
+        for at, (mark, kind, is_open) in enumerate(wanted.places):
+            if is_open:
+                kind = put_in(kind, parts[:at])
+            inner = "gone" if mark == "gone" else manner
+            if not self.reads_fit(parts[at], kind, thing[at], around, inner, left):
                 return None
-            return self._part(1, self.thing[2], self.manner)
-        if told is not None:
-            self.told = ("to", self.term[1], self.term[2], told)
-        return None
+        return put_in(wanted.result, parts) if wanted.is_open else wanted.result
 
-    def _give(self, told):
-        mark = self.term[1]
-        if self.stage == 1:
-            return self._part(0, self.thing[0], self.manner)
-        if self.stage == 3:
-            if told:
-                self.told = put_in(self.wanted[3], self.term[3:])
-            return None
-        self.wanted = None if told is None else self.reader.walked(told, self.thing[1])
-        if self.wanted is None or self.wanted[0] != "to" or self.wanted[1] != mark:
-            return None
-        return self._fit(1, self.wanted[2], mark, self.thing[2])
+    def reads_fit(self, term, kind, thing, around, manner, left):
+        """Whether it is a fit of the term and the kind."""
+        if is_told(thing, 4) and thing[0] == "as":
+            own = self.read_kind(term, thing[1], around, manner, left)
+            return own is not None and self.reader.meets(own, thing[2], kind, thing[3])
+        if not is_told(thing, 7) or thing[0] != "under":
+            return False
+        if left == 0:
+            return self.tasks.deeper((term, kind, thing, around, manner))
+        return self._under(term, kind, thing, around, manner, left - 1)
 
-    def _table(self, told):
-        parts = parts_of(self.term)
-        if self.stage == 1:
-            self.wanted = wanted_by(self.reader, self.term)
-            if self.wanted is None or len(self.wanted[0]) != len(parts) or not is_told(self.thing, len(parts)):
-                return None
-        elif not told:
-            return None
-        at = self.stage - 1
-        if at == len(parts):
-            self.told = put_in(self.wanted[1], parts)
-            return None
-        mark, kind = self.wanted[0][at]
-        return self._fit(at, put_in(kind, parts[:at]), mark, self.thing[at])
+    def _under(self, term, kind, thing, around, manner, left):
+        """Whether it is the fit of a fun beneath a to."""
+        head = self.reader.walked(kind, thing[1])
+        if term[0] != "fun" or head is None or head[0] != "to" or head[1] != term[1]:
+            return False
+        if self._world(term, 0, thing[2], thing[3], around, left) is None:
+            return False
+        if not self.reader.meets(term[2], thing[4], head[2], thing[5]):
+            return False
+        return self.reads_fit(term[3], head[3], thing[6], around_part(term, 1, around), manner, left)
 
 
-class FitReading:
-    """A term, a kind and what may be a fit of both: told is whether it is one."""
-
-    def __init__(self, reader, term, kind, thing, around, manner):
-        self.reader = reader
-        self.term = term
-        self.kind = kind
-        self.thing = thing
-        self.around = around
-        self.manner = manner
-        self.stage = 0
-        self.wanted = None
-        self.told = False
-
-    def go(self, told):
-        """The next task within, by what the one ahead told."""
-        self.stage = self.stage + 1
-        if is_told(self.thing, 4) and self.thing[0] == "as":
-            return self._as(told)
-        if is_told(self.thing, 7) and self.thing[0] == "under":
-            return self._under(told)
-        return None
-
-    def _as(self, told):
-        if self.stage == 1:
-            return Reading(self.reader, self.term, self.thing[1], self.around, self.manner)
-        if told is not None:
-            self.told = self.reader.meets(told, self.thing[2], self.kind, self.thing[3])
-        return None
-
-    def _under(self, told):
-        if self.stage == 1:
-            return self._begin_under()
-        if self.stage == 3:
-            self.told = told
-            return None
-        other, left, right, given = self.thing[3:]
-        if world_by(self.reader, told, other) is None:
-            return None
-        if not self.reader.meets(self.term[2], left, self.wanted[2], right):
-            return None
-        around = around_part(self.term, 1, self.around)
-        return FitReading(self.reader, self.term[3], self.wanted[3], given, around, self.manner)
-
-    def _begin_under(self):
-        """The paper of a fun's kind to read, where the wanted kind comes to a to of its mark."""
-        self.wanted = self.reader.walked(self.kind, self.thing[1])
-        if self.term[0] != "fun" or self.wanted is None or self.wanted[0] != "to" or self.wanted[1] != self.term[1]:
-            return None
-        return Reading(self.reader, self.term[2], self.thing[2], self.around, "gone")
+def read_by_tasks(reader, task):
+    """What the smaller judge tells of a task."""
+    judge = SmallerJudge(reader)
+    return judge.tasks.done(task, lambda here, left: judge.do(here, left))
 
 
 def told_by(reader, term, thing, around, manner):
     """The kind of a term by a paper; None where it is no paper of it."""
-    return done(Reading(reader, term, thing, around, manner))
+    return read_by_tasks(reader, (term, None, thing, around, manner))
 
 
 def fits_by(reader, term, kind, thing, around, manner):
     """Whether it is a fit of the term and the kind."""
-    return done(FitReading(reader, term, kind, thing, around, manner))
+    return read_by_tasks(reader, (term, kind, thing, around, manner))

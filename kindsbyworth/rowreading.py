@@ -57,4 +57,4 @@ def row_by(reader, definition, number, thing):
     if len(row.shapes) != len(row.asks) or row.names.left or row.unsolved_due():
         return False
     around = around_by(row, thing[1])
-    return around is not None and fits_by(reader, body, row.wanted(definition[2], terms), thing[2], around, "run")
+    return around is not None and fits_by(reader, body, row.body_kind(definition[2], terms), thing[2], around, "run")

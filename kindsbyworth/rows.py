@@ -27,7 +27,7 @@ class JudgedRow(Row):
         if self.names.is_never:
             raise NoRow(self.number, "never")
 
-    def asks(self):
+    def asks_told(self):
         """(way, moves) of each shape pattern."""
         return tuple([(way, self.moves[at]) for at, way in enumerate(self.ways)])
 
@@ -52,4 +52,4 @@ def row_told(bench, definition, number):
     row = JudgedRow(bench, number)
     terms = row.go_through(patterns, definition[1])
     ways, around = row.take_kinds()
-    return row.asks(), ways, fitted(bench, body, row.wanted(definition[2], terms), around, "run", ())
+    return row.asks_told(), ways, fitted(bench, body, row.body_kind(definition[2], terms), around, "run", ())

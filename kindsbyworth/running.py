@@ -2,10 +2,9 @@
 
 from kindsbyworth.errors import Holed, TooGreat, TooLong
 from kindsbyworth.limits import DEEPEST, GREATEST, MOST
-from kindsbyworth.lookups import definition_of, family_of, shape_of
-from kindsbyworth.putting import put_in, put_measures
-from kindsbyworth.steps import coming
-from kindsbyworth.terms import measures, parts_of, with_parts
+from kindsbyworth.lookups import body_measured, definition_of, wanted_of
+from kindsbyworth.putting import Measured, put_in
+from kindsbyworth.terms import parts_of, with_ats
 
 # Words of terms that are worths as they stand.
 WORTHS = ("fun", "to", "world", "family")
@@ -50,104 +49,180 @@ def refuse_holes(scope, term):
             raise Holed(name)
 
 
-def marks_of(scope, term):
-    """The marks of a shape's or call's terms."""
-    if term[0] == "call":
-        return [mark for mark, kind in definition_of(scope, term[1])[1]]
-    family = family_of(scope, term[1])
-    return [mark for mark, kind in family[2] + shape_of(family, term[2])[1]]
+class Held:
+    """A closed term: a text and what is put in it, the nearest name last; what it is told as, and how great
+    and deep it is, is made out only when it is asked for. A shape that is a worth has parts, such ones too."""
+
+    def __init__(self, text, around, parts):
+        self.text = text
+        self.around = around
+        self.parts = parts
+        self.told = None
+        self.sizes = None
+
+    def term(self):
+        """The term itself."""
+        if self.told is None:
+            if self.parts is not None:
+                self.told = self.text[:3] + (tuple([part.term() for part in self.parts]),)
+            elif self.around:
+                self.told = with_ats(self.text, self._put)
+            else:
+                self.told = self.text
+        return self.told
+
+    def _put(self, k, bodies):
+        """What comes for a name beneath so many bodies of the text."""
+        return ("at", k) if k < bodies else self.around[len(self.around) - 1 - k + bodies].term()
+
+    def measures(self):
+        """How great and how deep it is."""
+        if self.sizes is None:
+            if self.parts is None:
+                self.sizes = put_sizes(Measured(self.text), self.around)
+            else:
+                size, depth = 1, 0
+                for part in self.parts:
+                    inner, within = part.measures()
+                    size = size + inner
+                    depth = max(depth, within + 1)
+                self.sizes = (size, depth)
+        return self.sizes
 
 
-def is_great(measured):
-    """Whether what has such a size and depth is beyond the bounds."""
-    return measured[0] > GREATEST or measured[1] > DEEPEST
+def refuse_great(sizes):
+    """TooGreat of what is so great and so deep, if that is beyond the bounds."""
+    if sizes[0] > GREATEST or sizes[1] > DEEPEST:
+        raise TooGreat(sizes[0])
 
 
-def refuse_great(measured):
-    """TooGreat of what has such a size and depth, if that is beyond the bounds."""
-    if is_great(measured):
-        raise TooGreat(measured[0])
+def put_sizes(measured, around):
+    """How great and deep a body is with these put in for names."""
+    size, depth = measured.size, measured.depth
+    many = len(around)
+    for number in measured.names:
+        if number < many:
+            times, deepest = measured.names[number]
+            inner, within = around[many - 1 - number].measures()
+            size = size + times * (inner - 1)
+            depth = max(depth, deepest + within)
+    return size, depth
 
 
-def run_parts(scope, term):
-    """The parts that are run ahead of the term."""
-    if term[0] == "give":
-        return [term[2]] if term[1] == "gone" else [term[2], term[3]]
-    return [part for mark, part in zip(marks_of(scope, term), parts_of(term)) if mark == "run"]
+def held_text(text, around):
+    """A text, and what is put in it."""
+    if text[0] == "at" and text[1] < len(around):
+        return around[len(around) - 1 - text[1]]
+    return Held(text, around, None)
 
 
-def is_worth(scope, term):
-    """Whether it is a worth as it stands."""
-    left = [term]
-    while left:
-        here = left.pop()
-        if here[0] == "shape":
-            left.extend(run_parts(scope, here))
-        elif here[0] not in WORTHS:
-            return False
+def met(scope, patterns, things, taken):
+    """Whether patterns take worths, and what stands at gone places; what takes take is put in a list.
+    None where no shape stands at a pattern of one."""
+    for pattern, here in zip(patterns, things):
+        if pattern[0] == "take":
+            taken.append(here)
+        elif pattern[0] == "shape":
+            if here.parts is None:
+                return None
+            if here.text[2] != pattern[1]:
+                return False
+            many = len(here.parts) - len(pattern[2])
+            told = met(scope, pattern[2], here.parts[many:], taken)
+            if not told:
+                return told
     return True
 
 
-def with_worths(scope, term, worths):
-    """The term with worths in the place of the parts that were run."""
-    if term[0] == "give":
-        return ("give", term[1], worths[0], term[3] if term[1] == "gone" else worths[1])
-    marks, rest = marks_of(scope, term), list(reversed(worths))
-    return with_parts(term, tuple([
-        rest.pop() if mark == "run" else part for mark, part in zip(marks, parts_of(term))
-    ]))
-
-
 class Run:
-    """A run: what is still to do, the worths that wait for it, how many steps went."""
+    """A run: what is still to do, the worths that wait for it, how many steps went.
+
+    To do is (text, around, marks): a text to run, marks None, or one whose
+    parts of mark run, as these marks tell, were run.
+    """
 
     def __init__(self, scope, term, most):
         self.scope = scope
         self.most = most
         self.steps = 0
         self.worths = []
-        self.left = [(term, None)]
+        self.left = [(term, (), None)]
 
     def worth(self):
         """The worth that it comes to, None where it sticks."""
         while self.left:
-            term, many = self.left.pop()
-            if many is None:
-                self._begin(term)
-            elif not self._end(term, many):
+            text, around, marks = self.left.pop()
+            if marks is None:
+                goes = self._begin(text, around)
+            elif text[0] == "shape":
+                self._keep(Held(text, (), self._parts(text[3], around, marks)))
+                goes = True
+            else:
+                goes = self._step(text, self._parts(parts_of(text), around, marks))
+            if not goes:
                 return None
-        return self.worths[0]
+        return self.worths[0].term()
 
-    def _begin(self, term):
-        """Keep a worth, or set down what is to run ahead of the term."""
-        if term[0] in WORTHS or (is_worth(self.scope, term) and not is_great(measures(term))):
-            self._keep(term)
-            return
-        parts = run_parts(self.scope, term)
-        self.left.append((term, len(parts)))
-        self.left.extend([(part, None) for part in reversed(parts)])
-
-    def _keep(self, worth):
-        """Keep a worth for what waits for it."""
-        refuse_great(measures(worth))
-        self.worths.append(worth)
-
-    def _end(self, term, many):
-        """Go on with the term, so many parts of which were run; False where it sticks."""
-        first = len(self.worths) - many
-        term = with_worths(self.scope, term, self.worths[first:])
-        del self.worths[first:]
-        if term[0] == "shape":
-            self._keep(term)
-            return True
-        comes = coming(self.scope, term)
-        if comes is None:
+    def _begin(self, text, around):
+        """Keep a worth, or set down what is to run ahead of the text; False of what is none of both."""
+        word = text[0]
+        if word == "at":
+            if text[1] >= len(around):
+                return False
+            self.worths.append(around[len(around) - 1 - text[1]])
+        elif word in WORTHS:
+            self._keep(Held(text, around, None))
+        elif word == "shape" and not text[3]:
+            self._keep(Held(text, (), ()))
+        elif word == "hole":
             return False
+        else:
+            marks = ("run", text[1]) if word == "give" else wanted_of(self.scope, text).marks
+            self.left.append((text, around, marks))
+            for mark, part in reversed(list(zip(marks, parts_of(text)))):
+                if mark == "run":
+                    self.left.append((part, around, None))
+        return True
+
+    def _parts(self, texts, around, marks):
+        """The parts of a text whose parts of mark run were run."""
+        first = len(self.worths) - marks.count("run")
+        worths = self.worths[first:]
+        del self.worths[first:]
+        if len(worths) == len(marks):
+            return worths
+        worths.reverse()
+        return [worths.pop() if mark == "run" else held_text(text, around) for mark, text in zip(marks, texts)]
+
+    def _keep(self, held):
+        """Keep a worth for what waits for it; TooGreat."""
+        refuse_great(held.measures())
+        self.worths.append(held)
+
+    def _step(self, text, parts):
+        """Go on with a give or call whose parts were run; False where it sticks."""
+        if text[0] == "give":
+            fun = parts[0].text
+            if fun[0] != "fun" or fun[1] != text[1]:
+                return False
+            return self._go_on(fun[3], parts[0].around + (parts[1],), Measured(fun[3]))
+        definition = definition_of(self.scope, text[1])
+        for row, (patterns, body) in enumerate(definition[4]):
+            taken = []
+            told = met(self.scope, patterns, parts, taken)
+            if told:
+                return self._go_on(body, tuple(taken), body_measured(self.scope, text[1], row))
+            if told is None:
+                return False
+        return False
+
+    def _go_on(self, body, around, measured):
+        """Run a body with what is put in it; TooLong, TooGreat."""
         if self.steps == self.most:
             raise TooLong(self.most)
         self.steps = self.steps + 1
-        refuse_great(put_measures(comes[0], comes[1]))
-        self.left.append((put_in(comes[0], comes[1]), None))
+        refuse_great(put_sizes(measured, around))
+        self.left.append((body, around, None))
         return True
 
 

@@ -11,7 +11,7 @@ def is_of_scope(thing):
 
 
 class Scope:
-    """Items in order; it never changes."""
+    """Items in order; it never changes, but for what it keeps of what was told of them (wanted, measured)."""
 
     def __init__(self, items=()):
         if not isinstance(items, tuple):
@@ -22,6 +22,9 @@ class Scope:
         self.homes = {}
         self.families = {}
         self.definitions = {}
+        self.shapes = {}
+        self.wanted = {}
+        self.measured = {}
         for item in items:
             self._take_in(item)
 
@@ -32,6 +35,8 @@ class Scope:
             self.homes[name] = item
         if item[0] == "family":
             self.families[item[1]] = item
+            for shape in item[5]:
+                self.shapes[(item[1], shape[0])] = (len(item[2]), len(shape[1]))
         if item[0] == "lot":
             for definition in item[1]:
                 self.definitions[definition[0]] = definition
@@ -54,10 +59,17 @@ class Scope:
         """A Scope with one item more; those that are here were told to be items."""
         if not is_of_scope(item):
             raise NoItem("this is no item")
+        return self.grown(item)
+
+    def grown(self, item):
+        """As with_item, of what is known to be an item."""
         made = Scope()
         made.all_items = self.all_items + (item,)
         made.homes = dict(self.homes)
         made.families = dict(self.families)
         made.definitions = dict(self.definitions)
+        made.shapes = {pair: self.shapes[pair] for pair in self.shapes}
+        made.wanted = {key: self.wanted[key] for key in self.wanted}
+        made.measured = {pair: self.measured[pair] for pair in self.measured}
         made._take_in(item)
         return made

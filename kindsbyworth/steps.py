@@ -1,56 +1,50 @@
 """Single steps of terms, and ways of them."""
 
-from kindsbyworth.errors import NoSpot, TooGreat
+from kindsbyworth.errors import TooGreat
 from kindsbyworth.limits import DEEPEST, GREATEST
-from kindsbyworth.lookups import definition_of, family_of, shape_of
-from kindsbyworth.putting import put_in, put_measures
-from kindsbyworth.terms import chain_to, measures, size_of, with_child
+from kindsbyworth.lookups import body_measured, definition_of
+from kindsbyworth.putting import Measured, put_in
+from kindsbyworth.terms import is_count, measures, parts_of, size_of, with_child
 
 
 def shape_terms(scope, term):
     """The terms of a shape behind its family's params, None where no shape of the Scope's stands."""
     if term[0] != "shape":
         return None
-    family = family_of(scope, term[1])
-    shape = None if family is None else shape_of(family, term[2])
-    if shape is None or len(term[3]) != len(family[2]) + len(shape[1]):
+    many = scope.shapes.get(term[1:3])
+    if many is None or len(term[3]) != many[0] + many[1]:
         return None
-    return term[3][len(family[2]):]
+    return term[3][many[0]:]
 
 
-def paired(patterns, terms):
-    """A list of patterns with their terms, the first one last, so that it is popped first."""
-    pairs = list(zip(patterns, terms))
-    pairs.reverse()
-    return pairs
-
-
-def met(scope, patterns, terms):
-    """How patterns meet terms: (word, told), word `takes` with what they take, `passes` (to the
-    next row), or `waits` with the term at which no shape stands."""
-    taken = []
-    left = paired(patterns, terms)
-    while left:
-        pattern, term = left.pop()
+def met(scope, patterns, terms, taken):
+    """How patterns meet terms: None where they take these, what takes take behind what is in a list;
+    False where the next row is to be tried; else the term at which no shape stands."""
+    for pattern, term in zip(patterns, terms):
         if pattern[0] == "take":
             taken.append(term)
-        if pattern[0] != "shape":
-            continue
-        within = shape_terms(scope, term)
-        if within is None:
-            return "waits", term
-        if term[2] != pattern[1] or len(within) != len(pattern[2]):
-            return "passes", None
-        left.extend(paired(pattern[2], within))
-    return "takes", tuple(taken)
+        elif pattern[0] == "shape":
+            within = shape_terms(scope, term)
+            if within is None:
+                return term
+            if term[2] != pattern[1] or len(within) != len(pattern[2]):
+                return False
+            told = met(scope, pattern[2], within, taken)
+            if told is not None:
+                return told
+    return None
 
 
 def rows_met(scope, definition, terms):
-    """How a definition's rows meet terms: (word, row, told); `passes` where no row is left."""
+    """How a definition's rows meet terms: (word, row, told), word `takes` with what the row takes, `waits`
+    with the term at which no shape stands, or `passes`, where no row is left."""
     for row, (patterns, body) in enumerate(definition[4]):
-        word, told = met(scope, patterns, terms)
-        if word != "passes":
-            return word, row, told
+        taken = []
+        told = met(scope, patterns, terms, taken)
+        if told is None:
+            return "takes", row, tuple(taken)
+        if told is not False:
+            return "waits", row, told
     return "passes", None, None
 
 
@@ -68,63 +62,130 @@ def is_given(term):
 
 
 def coming(scope, term):
-    """(body, terms) where by a step at the term itself the body comes, these put in; else None."""
+    """(body, terms, row) where by a step at the term itself the body comes, these put in, row None of a give;
+    else None."""
     if term[0] == "give":
-        return (term[2][3], term[3:]) if is_given(term) else None
+        return (term[2][3], term[3:], None) if is_given(term) else None
     if term[0] != "call":
         return None
     word, row, told = called(scope, term)
     if word != "takes":
         return None
-    return definition_of(scope, term[1])[4][row][1], told
+    return definition_of(scope, term[1])[4][row][1], told, row
 
 
-class Whole:
-    """A whole term's size through steps within it, and whether it is known to be no deeper than bounds say."""
+class Going:
+    """A term in which steps go, as the terms from it down to where one goes next, and the spot of this.
 
-    def __init__(self, term):
-        self.size, depth = measures(term)
-        self.is_deep = depth > DEEPEST
-
-    def made(self, chain, spot, comes):
-        """The new chain of terms down to the spot behind this step there; TooGreat."""
-        body, terms = comes
-        size, depth = put_measures(body, terms)
-        size = size + self.size - size_of(chain[-1])
-        if size > GREATEST or len(spot) + depth > DEEPEST:
-            raise TooGreat(size)
-        rising = [put_in(body, terms)]
-        for at in reversed(range(len(spot))):
-            rising.append(with_child(chain[at], spot[at], rising[-1]))
-        rising.reverse()
-        if self.is_deep:
-            if measures(rising[0])[1] > DEEPEST:
-                raise TooGreat(size)
-            self.is_deep = False
-        self.size = size
-        return rising
-
-
-def step_made(scope, term, spot, whole, noted):
-    """The term behind a step at the spot, None where none goes there; TooGreat.
-
-    The name of the definition that is unfolded so is set down in noted, a dict.
+    Terms above a step hold what was there ahead of it, till they are asked for: stale tells how many do.
+    How great and how deep the whole is is told by bounds that it doesn't exceed, as far as these will do.
     """
-    try:
-        chain = chain_to(term, spot)
-    except NoSpot:
-        return None
-    comes = coming(scope, chain[-1])
-    if comes is None:
-        return None
-    if chain[-1][0] == "call":
-        noted[chain[-1][1]] = True
-    return whole.made(chain, spot, comes)[0]
+
+    def __init__(self, scope, term):
+        self.scope = scope
+        self.chain = [term]
+        self.spot = []
+        self.stale = 0
+        self.size = None
+        self.depth = None
+
+    def down(self, number, part):
+        """Go down to a part."""
+        self.spot.append(number)
+        self.chain.append(part)
+
+    def up(self):
+        """Go up to the term that has this part; the number of the part."""
+        part = self.chain.pop()
+        number = self.spot.pop()
+        if self.stale > len(self.spot):
+            self.chain[-1] = with_child(self.chain[-1], number, part)
+            self.stale = len(self.spot)
+        return number
+
+    def whole(self):
+        """The whole term as it is now."""
+        return self.fresh(0)
+
+    def fresh(self, level):
+        """The term so many levels down as it is now."""
+        for at in reversed(range(level, self.stale)):
+            self.chain[at] = with_child(self.chain[at], self.spot[at], self.chain[at + 1])
+        self.stale = min(self.stale, level)
+        return self.chain[level]
+
+    def put(self, comes):
+        """Let what comes by a step come here; TooGreat."""
+        body, terms, row = comes
+        if self.size is None:
+            self.size, self.depth = measures(self.chain[0])
+        here = self.chain[-1]
+        if row is None:
+            measured = Measured(body)
+        else:
+            measured = body_measured(self.scope, here[1], row)
+            self.size = self.size + measured.size
+            self.depth = max(self.depth, len(self.spot) + measured.depth)
+        self._keep_bounds(measured, terms)
+        self.chain[-1] = put_in(body, terms)
+        self.stale = len(self.spot)
+        if self.size > GREATEST or self.depth > DEEPEST:
+            self._measure()
+
+    def _keep_bounds(self, measured, terms):
+        """Let the bounds be those behind a step: each term was there once, at least one level down."""
+        deepest = 1
+        for number in measured.names:
+            if number < len(terms):
+                times, depth = measured.names[number]
+                deepest = max(deepest, depth)
+                if times > 1:
+                    self.size = self.size + (times - 1) * size_of(terms[len(terms) - 1 - number])
+        self.depth = self.depth + deepest - 1
+
+    def _measure(self):
+        """Measure the whole; TooGreat."""
+        self.size, self.depth = measures(self.whole())
+        if self.size > GREATEST or self.depth > DEEPEST:
+            raise TooGreat(self.size)
+
+    def goes_to(self, spot):
+        """Go to a spot, of anything, and tell whether there is one."""
+        if not isinstance(spot, tuple):
+            return False
+        shared = 0
+        while shared < len(self.spot) and shared < len(spot) and is_count(spot[shared]) and spot[shared] == self.spot[shared]:
+            shared = shared + 1
+        while len(self.spot) > shared:
+            self.up()
+        for number in spot[shared:]:
+            parts = parts_of(self.chain[-1])
+            if not is_count(number) or number >= len(parts):
+                return False
+            self.down(number, parts[number])
+        return True
+
+    def goes_step(self, spot, noted):
+        """Go a step at a spot, of anything, and tell whether one goes; TooGreat.
+
+        The name of the definition that is unfolded so is set down in noted, a dict.
+        """
+        if not self.goes_to(spot):
+            return False
+        here = self.chain[-1]
+        comes = coming(self.scope, here)
+        if comes is None:
+            return False
+        if here[0] == "call":
+            noted[here[1]] = True
+        self.put(comes)
+        return True
 
 
 def step_at(scope, term, spot):
     """The whole term behind a step at the spot, None where none goes; TooGreat of one beyond the bounds."""
-    return step_made(scope, term, spot, Whole(term), {})
+    going = Going(scope, term)
+    return going.whole() if going.goes_step(spot, {}) else None
 
 
 def walked_noting(scope, term, way, noted):
@@ -133,15 +194,14 @@ def walked_noting(scope, term, way, noted):
         return None
     if not way:
         return term
-    whole = Whole(term)
-    for spot in way:
-        try:
-            term = step_made(scope, term, spot, whole, noted)
-        except TooGreat:
-            return None
-        if term is None:
-            return None
-    return term
+    going = Going(scope, term)
+    try:
+        for spot in way:
+            if not going.goes_step(spot, noted):
+                return None
+    except TooGreat:
+        return None
+    return going.whole()
 
 
 def walked(scope, term, way):

@@ -1,19 +1,46 @@
-"""Tasks within tasks, done by a stack: so however deep they lie."""
+"""Tasks within tasks, however deep they lie: calls nest only so far, and what lies deeper is done by itself."""
+
+from kindsbyworth.terms import SAFE_DEPTH
 
 
-def done(task):
-    """What a task is told of.
+class Deeper(Exception):
+    """A task lies too deep for calls to nest: it is to be done first, by itself."""
 
-    Its go is handed what its inner task ahead is told of (at first None), and
-    tells its next inner task; None behind the last, where its told is set.
+    def __init__(self, task):
+        self.task = task
+
+
+class Tasks:
+    """Tasks that call one another, and what was told of those that lay too deep.
+
+    A task that comes to too deep ones is done again from its start when these
+    are told; as it comes to them in the same order each time, what was told
+    of them is kept in this order.
     """
-    left = [task]
-    told = None
-    while left:
-        inner = left[-1].go(told)
-        if inner is None:
-            told = left.pop().told
-        else:
-            left.append(inner)
-            told = None
-    return told
+
+    def __init__(self):
+        self.known = []
+        self.used = 0
+
+    def deeper(self, task):
+        """What is told of a task that lies too deep, if it is done; else Deeper."""
+        if self.used == len(self.known):
+            raise Deeper(task)
+        self.used = self.used + 1
+        return self.known[self.used - 1]
+
+    def done(self, task, do):
+        """What do(task, left) tells; left is how much deeper calls may nest."""
+        left = [(task, [])]
+        while True:
+            here, self.known = left[-1]
+            self.used = 0
+            try:
+                told = do(here, SAFE_DEPTH)
+            except Deeper as deeper:
+                left.append((deeper.task, []))
+                continue
+            left.pop()
+            if not left:
+                return told
+            left[-1][1].append(told)

@@ -103,24 +103,25 @@ def is_term(thing):
 
 def parts_of(term):
     """Its parts, in the order of their numbers."""
-    if term[0] in ("to", "fun", "give"):
-        return term[2:]
-    if term[0] in ("family", "call"):
+    # How long a term is tells more than its word, and sooner.
+    many = len(term)
+    if many == 2:
+        return ()
+    if many == 3:
         return term[2]
-    if term[0] == "shape":
-        return term[3]
-    return ()
+    return term[3] if term[0] == "shape" else term[2:]
 
 
 def with_parts(term, parts):
     """The term with these parts in the place of its own, as many."""
-    if term[0] in ("to", "fun", "give"):
-        return term[:2] + parts
-    if term[0] in ("family", "call"):
-        return term[:2] + (parts,)
+    many = len(term)
+    if many == 2:
+        return term
+    if many == 3:
+        return (term[0], term[1], parts)
     if term[0] == "shape":
-        return term[:3] + (parts,)
-    return term
+        return (term[0], term[1], term[2], parts)
+    return term[:2] + parts
 
 
 def bodies_above(term, number):
