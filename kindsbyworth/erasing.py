@@ -81,7 +81,7 @@ def erased_row(bench, definition, number):
 
 def erased_lot(scope, lot):
     """The definitions of a lot erased, by the Scope of those ahead of it and its open items."""
-    bench = Bench(scope.grown(waiting(lot)), MOST)
+    bench = Bench(scope.grown((waiting(lot),)), MOST)
     found = []
     for definition in lot[1]:
         many = len([mark for mark, kind in definition[1] if mark == "run"])
@@ -97,5 +97,5 @@ def erased_scope(scope):
     for item in scope.all_items:
         if item[0] == "lot":
             found.extend(erased_lot(ahead, item))
-        ahead = ahead.grown(item)
+        ahead = ahead.grown((item,))
     return tuple(sorted(found, key=lambda definition: definition[0]))

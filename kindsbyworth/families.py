@@ -77,5 +77,5 @@ def family_told(scope, family, most):
     bench = Bench(scope, most)
     params = telescope_told(bench, family[2], ())
     indexes = telescope_told(bench, family[3], family[2])
-    inner = Bench(scope.grown(family), most)
+    inner = Bench(scope.grown((family,)), most)
     return params, indexes, tuple([shape_told(inner, family, shape) for shape in family[5]])

@@ -24,13 +24,17 @@ def plain_row(row):
     return name, telescope, manner, with_nodes(wish, unsigned)
 
 
+def plain_rows(noted):
+    """The rows of noted wishes, a dict by names, with plain calls of the open items, by names, rising."""
+    return tuple([plain_row(noted[name]) for name in sorted(list(noted))])
+
+
 def wishes(scope, item, *, most=MOST):
     """Rows (name, around, manner, wish) for the item's holes, by names, rising; refused as its rows are."""
     refuse_item(scope, item)
     if item[0] == "family":
         return ()
-    noted = LotTold(scope, item, most).noted
-    return tuple([plain_row(noted[name]) for name in sorted(list(noted))])
+    return plain_rows(LotTold(scope, item, most).noted)
 
 
 def opened(rows):

@@ -70,7 +70,7 @@ def family_by(reader, family, thing):
         return False
     if not telescope_by(reader, family[3], thing[1], family[2]):
         return False
-    inner = reader.beside(reader.scope.grown(family), {})
+    inner = reader.beside(reader.scope.grown((family,)), {})
     for shape, told in zip(family[5], thing[2]):
         if not shape_by(inner, family, shape, told):
             return False
@@ -125,7 +125,7 @@ def lot_by(reader, lot, thing):
             return False
     if not are_ends_by(definitions, [told[2] for told in thing]):
         return False
-    inner = reader.beside(reader.scope.grown(waiting(lot)), last_open(reader.scope))
+    inner = reader.beside(reader.scope.grown((waiting(lot),)), last_open(reader.scope))
     for definition, told in zip(definitions, thing):
         if not rows_by(inner, definition, told):
             return False

@@ -36,11 +36,12 @@ class Wanted:
     """What is wanted where a name stands: a telescope that the parts fit, and the kind of the whole.
 
     Of each kind, and of this one, it is told whether any of those ahead stands in it: else nothing is put in.
+    Of the places of mark run their numbers are told, the last one first.
     """
 
     def __init__(self, telescope, result):
-        self.marks = tuple([mark for mark, one in telescope])
         self.places = [(mark, one, has_open(one)) for mark, one in telescope]
+        self.runs = tuple([at for at in reversed(range(len(telescope))) if telescope[at][0] == "run"])
         self.result = result
         self.is_open = has_open(result)
 

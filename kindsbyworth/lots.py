@@ -29,7 +29,7 @@ class LotTold:
     def __init__(self, scope, lot, most):
         outer = Bench(scope, most)
         self.heads = [head_told(outer, definition) for definition in lot[1]]
-        self.scope = scope.grown(waiting(lot))
+        self.scope = scope.grown((waiting(lot),))
         bench = Bench(self.scope, most)
         self.rows = [rows_told(bench, definition) for definition in lifted_with(lot, HOLE_SIGN)[1]]
         self.noted = bench.noted

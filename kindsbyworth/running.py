@@ -8,6 +8,8 @@ from kindsbyworth.terms import parts_of, with_ats
 
 # Words of terms that are worths as they stand.
 WORTHS = ("fun", "to", "world", "family")
+# The numbers of the parts of a give that are run ahead of it, the last one first.
+GIVEN = {"run": (1, 0), "gone": (0,)}
 
 
 def called_names(term):
@@ -66,7 +68,7 @@ class Held:
             if self.parts is not None:
                 self.told = self.text[:3] + (tuple([part.term() for part in self.parts]),)
             elif self.around:
-                self.told = with_ats(self.text, self._put)
+                self.told = with_ats(self.text, lambda k, bodies: self._put(k, bodies))
             else:
                 self.told = self.text
         return self.told
@@ -137,8 +139,8 @@ def met(scope, patterns, things, taken):
 class Run:
     """A run: what is still to do, the worths that wait for it, how many steps went.
 
-    To do is (text, around, marks): a text to run, marks None, or one whose
-    parts of mark run, as these marks tell, were run.
+    To do is (text, around, runs): a text to run, runs None, or one whose
+    parts with these numbers, the last one first, were run.
     """
 
     def __init__(self, scope, term, most):
@@ -151,14 +153,14 @@ class Run:
     def worth(self):
         """The worth that it comes to, None where it sticks."""
         while self.left:
-            text, around, marks = self.left.pop()
-            if marks is None:
+            text, around, runs = self.left.pop()
+            if runs is None:
                 goes = self._begin(text, around)
             elif text[0] == "shape":
-                self._keep(Held(text, (), self._parts(text[3], around, marks)))
+                self._keep(Held(text, (), self._parts(text[3], around, runs)))
                 goes = True
             else:
-                goes = self._step(text, self._parts(parts_of(text), around, marks))
+                goes = self._step(text, self._parts(parts_of(text), around, runs))
             if not goes:
                 return None
         return self.worths[0].term()
@@ -177,22 +179,22 @@ class Run:
         elif word == "hole":
             return False
         else:
-            marks = ("run", text[1]) if word == "give" else wanted_of(self.scope, text).marks
-            self.left.append((text, around, marks))
-            for mark, part in reversed(list(zip(marks, parts_of(text)))):
-                if mark == "run":
-                    self.left.append((part, around, None))
+            parts = parts_of(text)
+            runs = GIVEN[text[1]] if word == "give" else wanted_of(self.scope, text).runs
+            self.left.append((text, around, runs))
+            for at in runs:
+                self.left.append((parts[at], around, None))
         return True
 
-    def _parts(self, texts, around, marks):
-        """The parts of a text whose parts of mark run were run."""
-        first = len(self.worths) - marks.count("run")
+    def _parts(self, texts, around, runs):
+        """The parts of a text, those with these numbers as they were run."""
+        first = len(self.worths) - len(runs)
         worths = self.worths[first:]
         del self.worths[first:]
-        if len(worths) == len(marks):
+        if len(worths) == len(texts):
             return worths
         worths.reverse()
-        return [worths.pop() if mark == "run" else held_text(text, around) for mark, text in zip(marks, texts)]
+        return [worths.pop() if at in runs else held_text(text, around) for at, text in enumerate(texts)]
 
     def _keep(self, held):
         """Keep a worth for what waits for it; TooGreat."""

@@ -59,17 +59,18 @@ class Scope:
         """A Scope with one item more; those that are here were told to be items."""
         if not is_of_scope(item):
             raise NoItem("this is no item")
-        return self.grown(item)
+        return self.grown((item,))
 
-    def grown(self, item):
-        """As with_item, of what is known to be an item."""
+    def grown(self, items):
+        """A Scope with these more, each of which is known to be an item."""
         made = Scope()
-        made.all_items = self.all_items + (item,)
+        made.all_items = self.all_items + items
         made.homes = dict(self.homes)
         made.families = dict(self.families)
         made.definitions = dict(self.definitions)
         made.shapes = {pair: self.shapes[pair] for pair in self.shapes}
         made.wanted = {key: self.wanted[key] for key in self.wanted}
         made.measured = {pair: self.measured[pair] for pair in self.measured}
-        made._take_in(item)
+        for item in items:
+            made._take_in(item)
         return made
