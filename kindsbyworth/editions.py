@@ -22,8 +22,8 @@ class Entry:
         self.item = typed
         self.told_paper, self.wished = item_told(scope, typed, MOST)
         lot = lifted(typed)
-        self.items = opened(self.wished) + (lot,)
-        inner = scope.grown(self.items[:-1])
+        self.brought = opened(self.wished) + (lot,)
+        inner = scope.grown(self.brought[:-1])
         unfolded = unfolded_names(inner, lot, self.told_paper)
         self.unfolded = tuple(sorted(unfolded))
         self.read = read_with(inner, lot, unfolded)
@@ -47,12 +47,13 @@ class Picture:
     """The items of a picture, and the (library, number) of those that they name."""
 
     def __init__(self, items):
-        self.items = items
+        self.far_items = items
         self.pairs = far_pairs(items)
 
 
 class Edition:
-    """Books by the names of libraries; a shelf of pictures by (library, number), in the order in which they were made."""
+    """Books by the names of libraries; a shelf of pictures by (library, number), in the order in which
+    they were made."""
 
     def __init__(self, books, shelf):
         self.books = books
@@ -80,7 +81,7 @@ class Edition:
     def all_told(self):
         """All that two equal editions have in common: (library, items, pictures' items), by names."""
         return tuple([
-            (lib, self.typed_items(lib), tuple([self.shelf[pair].items for pair in self.shelf if pair[0] == lib]))
+            (lib, self.typed_items(lib), tuple([self.shelf[pair].far_items for pair in self.shelf if pair[0] == lib]))
             for lib in sorted(list(self.books))
         ])
 
@@ -97,12 +98,12 @@ class Edition:
 
     def pictured(self, pairs):
         """A Scope of the items of these pictures."""
-        return Scope().grown(tuple([item for pair in pairs for item in self.shelf[pair].items]))
+        return Scope().grown(tuple([item for pair in pairs for item in self.shelf[pair].far_items]))
 
     def book_of(self, entries):
         """The book of these entries."""
         pairs = self.pairs_named([entry.item for entry in entries])
-        scope = self.pictured(pairs).grown(tuple([item for entry in entries for item in entry.items]))
+        scope = self.pictured(pairs).grown(tuple([item for entry in entries for item in entry.brought]))
         return Book(entries, pairs, scope)
 
     def with_put(self, lib, item):
@@ -111,9 +112,9 @@ class Edition:
         pairs = self.pairs_named(list(self.typed_items(lib)) + [item])
         scope = book.scope
         if pairs != book.pairs:
-            scope = self.pictured(pairs).grown(tuple([one for entry in book.entries for one in entry.items]))
+            scope = self.pictured(pairs).grown(tuple([one for entry in book.entries for one in entry.brought]))
         entry = Entry(scope, item)
-        return self.with_book(lib, Book(book.entries + (entry,), pairs, scope.grown(entry.items)))
+        return self.with_book(lib, Book(book.entries + (entry,), pairs, scope.grown(entry.brought)))
 
     def with_changed(self, lib, place, item):
         """(the edition with an item in the place of another one, the first names of those behind it that were
@@ -123,17 +124,17 @@ class Edition:
         old = entries[place]
         typed = [entry.item for entry in entries[:place] + entries[place + 1:]] + [item]
         pairs = self.pairs_named(typed)
-        scope = self.pictured(pairs).grown(tuple([one for entry in entries[:place] for one in entry.items]))
+        scope = self.pictured(pairs).grown(tuple([one for entry in entries[:place] for one in entry.brought]))
         made = [Entry(scope, item)]
         heads, rows = changed_names(old.item, item)
         anew = []
         for entry in entries[place + 1:]:
-            scope = scope.grown(made[-1].items)
+            scope = scope.grown(made[-1].brought)
             if are_met(heads, entry.read) or are_met(rows, entry.unfolded):
                 anew.append(entry.first_name())
                 entry = judged_anew(scope, entry)
             made.append(entry)
-        book = Book(entries[:place] + tuple(made), pairs, scope.grown(made[-1].items))
+        book = Book(entries[:place] + tuple(made), pairs, scope.grown(made[-1].brought))
         return self.with_book(lib, book), tuple(anew)
 
     def without(self, lib, place):

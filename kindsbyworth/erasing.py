@@ -7,7 +7,6 @@ from kindsbyworth.lots import waiting
 from kindsbyworth.marks import call_marks, shape_marks
 from kindsbyworth.rows import JudgedRow
 from kindsbyworth.scopes import Scope
-from kindsbyworth.terms import bodies_above, parts_of
 
 
 def opened(scope, term, around):

@@ -1,9 +1,7 @@
 """Libraries: items in editions, and pictures of them."""
 
 from kindsbyworth.editions import Book, Edition
-from kindsbyworth.errors import (
-    Holed, NoBack, NoHole, NoItem, NoLibrary, NoName, NoPicture, NoTerm, Taken,
-)
+from kindsbyworth.errors import Holed, NoBack, NoHole, NoItem, NoLibrary, NoName, NoPicture, NoTerm, Taken
 from kindsbyworth.holes import filled
 from kindsbyworth.items import holes_of, is_item, names_of
 from kindsbyworth.kinds import kind_of
@@ -160,7 +158,7 @@ class Libraries:
         self._book(lib)
         if not is_count(n) or (lib, n) not in self._now().shelf:
             raise NoPicture(n)
-        return self._now().shelf[(lib, n)].items
+        return self._now().shelf[(lib, n)].far_items
 
     def hangs_on(self, lib, name):
         """The names that the item that has this name reads, and those that it unfolds."""

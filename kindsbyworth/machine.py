@@ -25,7 +25,7 @@ class Frame:
         del self.stack[first:]
         return worths
 
-    def ask(self, row):
+    def branch(self, row):
         """Go on at the line of the shape of a local, its parts behind the locals, or at the row's own line."""
         _, number, lines, line = row
         here = self.worths[number]
@@ -69,7 +69,7 @@ class Machine:
         elif word == "close":
             frame.stack.append((CLOSURE, row[1], tuple(frame.last(row[2]))))
         elif word == "ask":
-            frame.ask(row)
+            frame.branch(row)
         elif word == "call":
             return self.begin(row[1], frame.last(row[2]))
         elif word == "tell":

@@ -4,7 +4,7 @@ from kindsbyworth.bareterms import bare_bodies, bare_parts
 from kindsbyworth.machine import START
 
 # A call of no block: so a run sticks where no row takes what a definition is called with.
-NO_ROW = (("call", START + "none", 0),)
+NO_ROW = (("call", ".none", 0),)
 
 
 class Node:

@@ -3,7 +3,7 @@
 from kindsbyworth.errors import Holed, TooGreat, TooLong
 from kindsbyworth.limits import DEEPEST, GREATEST, MOST
 from kindsbyworth.lookups import body_measured, definition_of, wanted_of
-from kindsbyworth.putting import Measured, put_in
+from kindsbyworth.putting import Measured
 from kindsbyworth.terms import parts_of, with_ats
 
 # Words of terms that are worths as they stand.
@@ -51,7 +51,7 @@ def refuse_holes(scope, term):
             raise Holed(name)
 
 
-class Held:
+class Closed:
     """A closed term: a text and what is put in it, the nearest name last; what it is told as, and how great
     and deep it is, is made out only when it is asked for. A shape that is a worth has parts, such ones too."""
 
@@ -62,11 +62,11 @@ class Held:
         self.told = None
         self.sizes = None
 
-    def term(self):
+    def shown(self):
         """The term itself."""
         if self.told is None:
             if self.parts is not None:
-                self.told = self.text[:3] + (tuple([part.term() for part in self.parts]),)
+                self.told = self.text[:3] + (tuple([part.shown() for part in self.parts]),)
             elif self.around:
                 self.told = with_ats(self.text, lambda k, bodies: self._put(k, bodies))
             else:
@@ -75,7 +75,7 @@ class Held:
 
     def _put(self, k, bodies):
         """What comes for a name beneath so many bodies of the text."""
-        return ("at", k) if k < bodies else self.around[len(self.around) - 1 - k + bodies].term()
+        return ("at", k) if k < bodies else self.around[len(self.around) - 1 - k + bodies].shown()
 
     def measures(self):
         """How great and how deep it is."""
@@ -111,11 +111,11 @@ def put_sizes(measured, around):
     return size, depth
 
 
-def held_text(text, around):
+def closed_text(text, around):
     """A text, and what is put in it."""
     if text[0] == "at" and text[1] < len(around):
         return around[len(around) - 1 - text[1]]
-    return Held(text, around, None)
+    return Closed(text, around, None)
 
 
 def met(scope, patterns, things, taken):
@@ -157,13 +157,13 @@ class Run:
             if runs is None:
                 goes = self._begin(text, around)
             elif text[0] == "shape":
-                self._keep(Held(text, (), self._parts(text[3], around, runs)))
+                self._keep(Closed(text, (), self._parts(text[3], around, runs)))
                 goes = True
             else:
                 goes = self._step(text, self._parts(parts_of(text), around, runs))
             if not goes:
                 return None
-        return self.worths[0].term()
+        return self.worths[0].shown()
 
     def _begin(self, text, around):
         """Keep a worth, or set down what is to run ahead of the text; False of what is none of both."""
@@ -173,9 +173,9 @@ class Run:
                 return False
             self.worths.append(around[len(around) - 1 - text[1]])
         elif word in WORTHS:
-            self._keep(Held(text, around, None))
+            self._keep(Closed(text, around, None))
         elif word == "shape" and not text[3]:
-            self._keep(Held(text, (), ()))
+            self._keep(Closed(text, (), ()))
         elif word == "hole":
             return False
         else:
@@ -194,12 +194,12 @@ class Run:
         if len(worths) == len(texts):
             return worths
         worths.reverse()
-        return [worths.pop() if at in runs else held_text(text, around) for at, text in enumerate(texts)]
+        return [worths.pop() if at in runs else closed_text(text, around) for at, text in enumerate(texts)]
 
-    def _keep(self, held):
+    def _keep(self, worth):
         """Keep a worth for what waits for it; TooGreat."""
-        refuse_great(held.measures())
-        self.worths.append(held)
+        refuse_great(worth.measures())
+        self.worths.append(worth)
 
     def _step(self, text, parts):
         """Go on with a give or call whose parts were run; False where it sticks."""

@@ -154,7 +154,9 @@ class Going:
         if not isinstance(spot, tuple):
             return False
         shared = 0
-        while shared < len(self.spot) and shared < len(spot) and is_count(spot[shared]) and spot[shared] == self.spot[shared]:
+        for number, other in zip(spot, self.spot):
+            if not is_count(number) or number != other:
+                break
             shared = shared + 1
         while len(self.spot) > shared:
             self.up()
