@@ -3,10 +3,6 @@
 from kindsbyworth.bareterms import bare_bodies, bare_parts
 from kindsbyworth.machine import START
 
-# A call of no block: so a run sticks where no row takes what a definition is called with.
-NO_ROW = (("call", ".none", 0),)
-
-
 class Node:
     """A part of a bare term that is made: its parts, and the numbers of the names open in it, rising."""
 
@@ -101,10 +97,13 @@ class Making:
         code.append(("close", name, len(node.names)))
 
     def define(self, definition):
-        """Set down the blocks of a definition: one for each row, which calls the next one's where it doesn't take."""
+        """Set down the blocks of a definition: one for each row, which calls the next one's where it doesn't take.
+
+        Where no row is left, which no judged term comes to, a block goes on without end.
+        """
         name, many, rows = definition
         if not rows:
-            self.blocks.append((name, many, NO_ROW))
+            self.blocks.append((name, many, (("ask", 0, (), 0),) if many else (("call", name, 0), ("tell",))))
         for at, (patterns, body) in enumerate(rows):
             following = None if at == len(rows) - 1 else self.new_name()
             ahead, places = asks_of(patterns, many, following)
@@ -134,17 +133,15 @@ def asks_of(patterns, many, following):
     one isn't so; and the locals of the names of the row's body."""
     asks, takes = taken_of(patterns, many)
     places = {number: place for number, place in enumerate(reversed(takes))}
-    if not asks:
-        return [], places
-    fails = list(NO_ROW)
-    if following is not None:
+    fails = []
+    if asks and following is not None:
         fails = [("local", place) for place in range(many)] + [("call", following, many), ("tell",)]
-    # The first ask goes over what stands behind it, where it and the others go on that fail.
-    start = len(fails) + 1
     code = []
     for at, (place, shape) in enumerate(asks):
-        line = start if at == 0 else start + at
-        code.append(("ask", place, ((shape, line),), 1))
+        # What is done where an ask fails stands behind the first one, which goes over it.
+        line = len(fails) + at
+        here = line if at else 0
+        code.append(("ask", place, ((shape, line + 1),), 1 if fails else here))
     return code[:1] + fails + code[1:], places
 
 
