@@ -25,7 +25,7 @@ def names_beneath(term, parts):
 
 def node_of(term):
     """The nodes of a bare term, however deep."""
-    made = []
+    nodes = []
     left = [(term, False)]
     while left:
         here, is_ready = left.pop()
@@ -34,11 +34,11 @@ def node_of(term):
             left.append((here, True))
             left.extend([(part, False) for part in reversed(parts)])
             continue
-        first = len(made) - len(parts)
-        inner = made[first:]
-        del made[first:]
-        made.append(Node(here, inner, names_beneath(here, inner)))
-    return made[0]
+        first = len(nodes) - len(parts)
+        inner = nodes[first:]
+        del nodes[first:]
+        nodes.append(Node(here, inner, names_beneath(here, inner)))
+    return nodes[0]
 
 
 class Making:
