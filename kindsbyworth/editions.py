@@ -96,23 +96,16 @@ class Edition:
                 left.extend(self.shelf[pair].pairs)
         return [pair for pair in self.shelf if pair in found]
 
-    def pictured(self, pairs):
-        """A Scope of the items of these pictures."""
-        return Scope().grown(tuple([item for pair in pairs for item in self.shelf[pair].far_items]))
-
-    def book_of(self, entries):
-        """The book of these entries."""
-        pairs = self.pairs_named([entry.item for entry in entries])
-        scope = self.pictured(pairs).grown(tuple([item for entry in entries for item in entry.brought]))
-        return Book(entries, pairs, scope)
+    def scope_of(self, pairs, entries):
+        """The Scope of these entries, behind the items of these pictures."""
+        pictured = [item for pair in pairs for item in self.shelf[pair].far_items]
+        return Scope().grown(tuple(pictured + [item for entry in entries for item in entry.brought]))
 
     def with_put(self, lib, item):
         """The edition with an item more at the end of the library; refused as it is judged."""
         book = self.books[lib]
         pairs = self.pairs_named(list(self.typed_items(lib)) + [item])
-        scope = book.scope
-        if pairs != book.pairs:
-            scope = self.pictured(pairs).grown(tuple([one for entry in book.entries for one in entry.brought]))
+        scope = book.scope if pairs == book.pairs else self.scope_of(pairs, book.entries)
         entry = Entry(scope, item)
         return self.with_book(lib, Book(book.entries + (entry,), pairs, scope.grown(entry.brought)))
 
@@ -120,20 +113,19 @@ class Edition:
         """(the edition with an item in the place of another one, the first names of those behind it that were
         judged anew); refused as it is judged, Broken."""
         entries = self.books[lib].entries
-        refuse_holes_taken(entries[:place] + entries[place + 1:], item)
-        old = entries[place]
-        typed = [entry.item for entry in entries[:place] + entries[place + 1:]] + [item]
-        pairs = self.pairs_named(typed)
-        scope = self.pictured(pairs).grown(tuple([one for entry in entries[:place] for one in entry.brought]))
+        others = entries[:place] + entries[place + 1:]
+        refuse_holes_taken(others, item)
+        pairs = self.pairs_named([entry.item for entry in others] + [item])
+        scope = self.scope_of(pairs, entries[:place])
         made = [Entry(scope, item)]
-        heads, rows = changed_names(old.item, item)
+        heads, rows = changed_names(entries[place].item, item)
         anew = []
         for entry in entries[place + 1:]:
             scope = scope.grown(made[-1].brought)
-            if are_met(heads, entry.read) or are_met(rows, entry.unfolded):
+            hangs = are_met(heads, entry.read) or are_met(rows, entry.unfolded)
+            if hangs:
                 anew.append(entry.first_name())
-                entry = judged_anew(scope, entry)
-            made.append(entry)
+            made.append(judged_anew(scope, entry) if hangs else entry)
         book = Book(entries[:place] + tuple(made), pairs, scope.grown(made[-1].brought))
         return self.with_book(lib, book), tuple(anew)
 
@@ -144,7 +136,9 @@ class Edition:
         for entry in entries:
             if are_met(names, entry.read):
                 raise Broken(entry.first_name())
-        return self.with_book(lib, self.book_of(entries[:place] + entries[place + 1:]))
+        left = entries[:place] + entries[place + 1:]
+        pairs = self.pairs_named([entry.item for entry in left])
+        return self.with_book(lib, Book(left, pairs, self.scope_of(pairs, left)))
 
 
 def are_met(names, others):

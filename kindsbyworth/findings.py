@@ -49,7 +49,7 @@ def step_finding(scope, term, way, other):
 
 def is_still_everywhere(scope, term):
     """Whether no step goes at any spot of the term."""
-    return not any([coming(scope, part) is not None for _, part, _ in laid_out(term)])
+    return not any([coming(scope, part) is not None for spot, part, bodies in laid_out(term)])
 
 
 def unlike_finding(scope, term, other, way, further):
