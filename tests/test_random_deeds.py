@@ -11,7 +11,7 @@ from tests.test_changed_items import Changes
 from tests.test_libraries import Libs, seen
 
 ITEMS = [item(key) for key in ORDER]
-WORDS = ("begin", "put", "put", "put", "put", "put", "hole", "change", "change", "out", "fill", "fill", "picture", "back")
+WORDS = ("begin", "put", "put", "put", "put", "put", "put", "put", "hole", "hole", "change", "change", "out", "fill", "fill", "picture", "back")
 FILLINGS = [t(text) for text in ("0", "@0", "@1", "@2", "N", "Y", "(call add @0 @0)", "(S @0)", "?z", "(S ?y)")]
 
 
@@ -90,9 +90,9 @@ class Deeds:
 class DeedsTest(Libs):
     def test_deeds(self):
         told = {}
-        for seed in range(12):
+        for seed in range(80):
             deeds, libs, standing = Deeds(seed), Libraries(), []
-            for _ in range(50):
+            for _ in range(60):
                 name, arguments = deeds.deed(libs, len(standing))
                 if name in ("put", "change") and not is_item(arguments[1]):
                     continue
