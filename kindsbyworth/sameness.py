@@ -25,6 +25,8 @@ def are_same(one, other):
 
 def are_same_terms(one, other):
     """Whether two terms are the same; as are_same, but faster."""
+    if len(one) == 2 or not one[-1]:
+        return one == other
     left = [(one, other)]
     while left:
         here, there = left.pop()
