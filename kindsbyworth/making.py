@@ -3,6 +3,7 @@
 from kindsbyworth.bareterms import bare_bodies, bare_parts
 from kindsbyworth.machine import START
 
+
 class Node:
     """A part of a bare term that is made: its parts, and the numbers of the names open in it, rising."""
 
@@ -48,12 +49,12 @@ class Making:
     def __init__(self):
         self.blocks = []
         self.left = []
-        self.made = 0
+        self.many_named = 0
 
     def new_name(self):
         """The name of a further block."""
-        self.made = self.made + 1
-        return f"{START}{self.made}"
+        self.many_named = self.many_named + 1
+        return f"{START}{self.many_named}"
 
     def make_left(self):
         """Make all blocks that are left, and those that these bring."""
