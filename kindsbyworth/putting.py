@@ -1,6 +1,6 @@
 """Shifting terms, and putting terms in for names."""
 
-from kindsbyworth.terms import measures, parts_of, with_ats
+from kindsbyworth.terms import parts_of, with_ats
 
 
 def shifted(term, many):
@@ -58,16 +58,3 @@ class Measured:
     def _stands(self, number, above):
         times, deepest = self.names.get(number, (0, 0))
         self.names[number] = (times + 1, max(deepest, above))
-
-
-def put_measures(body, terms):
-    """The measures of the body with these terms put in, told without putting them in."""
-    measured = Measured(body)
-    size, depth = measured.size, measured.depth
-    for number in measured.names:
-        if number < len(terms):
-            times, deepest = measured.names[number]
-            inner, within = measures(terms[len(terms) - 1 - number])
-            size = size + times * (inner - 1)
-            depth = max(depth, deepest + within)
-    return size, depth

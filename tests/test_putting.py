@@ -1,7 +1,7 @@
 import unittest
 from itertools import product
 
-from kindsbyworth.putting import put_in, put_measures, shifted
+from kindsbyworth.putting import Measured, put_in, shifted
 from kindsbyworth.terms import is_open, is_term, measures, part_at, size_of
 from tests.samples import NAT, TERMS, ZERO, deep_term, number, wide_term
 
@@ -150,6 +150,18 @@ class DeepTest(unittest.TestCase):
             body = under(depth, ("call", "f", (("at", depth), ("at", depth + 1), ("at", depth - 1), ("at", depth + 2))))
             wanted = under(depth, ("call", "f", (("at", depth + 5), ZERO, ("at", depth - 1), ("at", depth))))
             self.assertEqual(put_in(body, (ZERO, ("at", 5))), wanted)
+
+
+def put_measures(body, terms):
+    """The measures of the body with these terms put in, as far as what is told of the body alone tells them."""
+    told = Measured(body)
+    size, depth = told.size, told.depth
+    for name, (times, deepest) in told.names.items():
+        if name < len(terms):
+            inner, within = measures(terms[len(terms) - 1 - name])
+            size = size + times * (inner - 1)
+            depth = max(depth, deepest + within)
+    return size, depth
 
 
 class MeasuresTest(unittest.TestCase):
