@@ -8,7 +8,7 @@ class Names(OpenNames):
     """Open names, the equations left of them, and whether these come to never."""
 
     def __init__(self, bench, prefers_gone):
-        super().__init__()
+        self.set_up()
         self.bench = bench
         self.prefers_gone = prefers_gone
         self.is_never = False

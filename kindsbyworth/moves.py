@@ -22,7 +22,7 @@ class MovedNames(OpenNames):
     """Open names and the equations left of them; these move just as they are told to."""
 
     def __init__(self, reader):
-        super().__init__()
+        self.set_up()
         self.reader = reader
 
     def twin(self):

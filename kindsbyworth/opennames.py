@@ -49,7 +49,8 @@ class OpenNames:
     were solved by later is put in only when it is asked for.
     """
 
-    def __init__(self):
+    def set_up(self):
+        """Begin without names; each kind of such names does so when it is made."""
         self.told = []
         self.solved = {}
         self.wholes = {}

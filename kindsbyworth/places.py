@@ -34,7 +34,8 @@ class Row:
     judge's rows tell themselves.
     """
 
-    def __init__(self, scope, names, number):
+    def set_up(self, scope, names, number):
+        """Begin a row; each judge's rows do so when they are made."""
         self.scope = scope
         self.names = names
         self.number = number

@@ -39,7 +39,7 @@ class Reckoning(Going):
     """
 
     def __init__(self, scope, term, most):
-        super().__init__(scope, term)
+        self.set_up(scope, term)
         self.most = most
         self.way = []
         # For each number of the spot the level of the nearest term above that is no shape, -1 where all are.

@@ -10,7 +10,7 @@ class ReadRow(Row):
     """A row that is gone through by its paper's asks; NoRow, of any word, where these don't go."""
 
     def __init__(self, reader, number, asks):
-        super().__init__(reader.scope, MovedNames(reader), number)
+        self.set_up(reader.scope, MovedNames(reader), number)
         self.reader = reader
         self.asks = asks
 

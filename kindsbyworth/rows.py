@@ -10,7 +10,7 @@ class JudgedRow(Row):
     """A row that is gone through by reckoning, with the ways and moves that were gone."""
 
     def __init__(self, bench, number):
-        super().__init__(bench.scope, Names(bench, False), number)
+        self.set_up(bench.scope, Names(bench, False), number)
         self.bench = bench
         self.ways = []
         self.moves = {}

@@ -82,6 +82,10 @@ class Going:
     """
 
     def __init__(self, scope, term):
+        self.set_up(scope, term)
+
+    def set_up(self, scope, term):
+        """Stand at the term itself, ahead of all steps."""
         self.scope = scope
         self.chain = [term]
         self.spot = []
@@ -109,9 +113,10 @@ class Going:
 
     def fresh(self, level):
         """The term so many levels down as it is now."""
-        for at in reversed(range(level, self.stale)):
+        while self.stale > level:
+            at = self.stale - 1
             self.chain[at] = with_child(self.chain[at], self.spot[at], self.chain[at + 1])
-        self.stale = min(self.stale, level)
+            self.stale = at
         return self.chain[level]
 
     def put(self, comes):
