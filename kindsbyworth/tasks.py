@@ -1,6 +1,7 @@
 """Tasks within tasks, however deep they lie: calls nest only so far, and what lies deeper is done by itself."""
 
-from kindsbyworth.terms import SAFE_DEPTH
+# So many terms within one another are gone down by calls: more than stand in what steps may make.
+NESTING = 60
 
 
 class Deeper(Exception):
@@ -36,7 +37,7 @@ class Tasks:
             here, self.known = left[-1]
             self.used = 0
             try:
-                told = do(here, SAFE_DEPTH)
+                told = do(here, NESTING)
             except Deeper as deeper:
                 left.append((deeper.task, []))
                 continue
